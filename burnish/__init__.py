@@ -1,0 +1,1 @@
+"""burnish: an optimizer that leaves a certificate."""

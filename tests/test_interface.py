@@ -1,0 +1,77 @@
+"""The interface: each name exists, with its arguments, and is defined in its file."""
+
+import ast
+import importlib
+import inspect
+import unittest
+
+LISTED = {
+    "words": "width(kind) size(kind) signed(w,x) wrap(w,n) binary(op,w,x,y) compare(predicate,w,x,y) opposite(predicate) "
+             "swapped(predicate) cast(op,v,w,x) bytes_of(count,x) from_bytes(row)",
+    "records": "result_kind(instruction) may_trap(op) builtin(callee) edges(end) with_edge(end,slot,edge) end_operands(end) "
+               "map_instruction(instruction,change) map_end(end,change) map_labels(end,change) definitions(function) "
+               "find_block(function,label) find_function(module,name) put_block(function,block) put_function(module,function) "
+               "new_name(function) new_label(function) canonical(function) canonical_module(module)",
+    "scan": "scan(text)",
+    "parse": "parse_module(text)",
+    "show": "show_operand(operand) show_instruction(instruction) show_end(end) show_function(function) show_module(module)",
+    "scopes": "reached(function) dominating(function) kinds_of(function) operand_kind(kinds,operand) signature(module,callee)",
+    "faults": "faults(module) is_valid(module) function_faults(module,function)",
+    "memory": "allowed(memory,pointer,count) load_value(memory,pointer,kind) store_value(memory,pointer,kind,value) "
+              "add_object(memory,sort,cells) end_life(memory,number) move_pointer(pointer,amount) first_memory(module)",
+    "steps": "operand_value(module,frame,operand) start(module) step(module,data,state)",
+    "run": "run(module,data,*,fuel) visits(module,data,*,fuel) same_run(first,second)",
+    "graph": "graph_of(function) backwards(graph) reachable(graph) reverse_postorder(graph) critical_edges(graph) "
+             "definition_places(function) live_names(function)",
+    "dominators": "immediate_dominators(graph) dominates(tree,a,b) dominator_order(graph,tree) immediate_postdominators(graph) "
+                  "frontiers(graph) iterated_frontier(graph,labels) deciders(graph) is_available(function,tree,name,label,i)",
+    "loops": "loops(graph) innermost(graph) loop_exits(graph,loop) preheader(graph,loop) is_reducible(graph)",
+    "lattice": "full(kind) single(kind,value) union(a,b) within(a,b) normal(kind,bounds) transfer(op,kind,data,kinds,ranges) "
+               "decide(predicate,kind,a,b) refine(predicate,kind,a,b)",
+    "values": "range_of(function,table,operand) sites_of(function,table,operand) live_labels(function,dead) apart(function,table,p,n,q,m)",
+    "holding": "holds_values(module,function,table)",
+}
+ERRORS = {"BurnishError": "", "TextError": "at", "ScriptError": "at", "UnknownPass": "word", "UnknownFunction": "name", "PackError": "at"}
+
+
+def shown(function):
+    """Return the arguments of a function, as they are listed."""
+    return str(inspect.signature(function)).replace(" ", "")
+
+
+class InterfaceTest(unittest.TestCase):
+
+    def test_functions(self):
+        for file, text in LISTED.items():
+            module = importlib.import_module("burnish." + file)
+            for told in text.split():
+                name = told.partition("(")[0]
+                function = getattr(module, name)
+                self.assertTrue(inspect.isfunction(function), told)
+                self.assertEqual(function.__module__, "burnish." + file)
+                self.assertEqual(name + shown(function), told)
+
+    def test_errors(self):
+        module = importlib.import_module("burnish.errors")
+        for name in ERRORS:
+            self.assertEqual(getattr(module, name).__module__, "burnish.errors")
+
+    def test_machine(self):
+        module = importlib.import_module("burnish.run")
+        machine = module.Machine
+        self.assertEqual(shown(machine), "(module,data)")
+        self.assertEqual(shown(machine.go), "(self,*,fuel=1000)")
+        self.assertEqual(shown(machine.rewind), "(self,state,steps)")
+        self.assertEqual(shown(machine.depth), "(self)")
+        for name in ("out", "end", "steps", "state"):
+            self.assertIsInstance(vars(machine)[name], property)
+        with open(module.__file__, encoding="utf-8") as file:
+            tree = ast.parse(file.read())
+        found = [node for node in tree.body if isinstance(node, ast.ClassDef) and node.name == "Machine"][0]
+        names = {node.name for node in found.body if isinstance(node, ast.FunctionDef)}
+        self.assertLessEqual({"__init__", "go", "rewind", "depth", "out", "end", "steps", "state"}, names)
+        self.assertTrue(inspect.isgeneratorfunction(module.visits))
+
+
+if __name__ == "__main__":
+    unittest.main()
