@@ -36,7 +36,7 @@ def dominator_order(graph, tree):
     while waiting:
         label = waiting.pop()
         found.append(label)
-        waiting.extend(reversed(children.get(label, [])))
+        waiting.extend(children.get(label, [])[::-1])
     return found
 
 

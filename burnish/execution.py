@@ -153,8 +153,8 @@ class Execution:
 
     def follow(self, frame, edge):
         """Go along an edge."""
-        label, args = edge
-        values = [self.value(frame, operand) for operand in args]
+        label, operands = edge
+        values = [self.value(frame, operand) for operand in operands]
         frame.block = self.program.block_at(frame.function, label)
         frame.position = 0
         for (param, _), value in zip(frame.block[1], values):

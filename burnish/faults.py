@@ -5,7 +5,7 @@ from burnish.records import edges, end_operands, find_function, is_division, may
 from burnish.scopes import block_numbers, block_targets, kinds_of, operand_kind, signature
 from burnish.words import width
 
-_WIDTHS = {"i1": 1, "i8": 8, "i16": 16, "i32": 32, "i64": 64}
+_INTEGERS = ("i1", "i8", "i16", "i32", "i64")
 
 _BITWISE = ("add", "sub", "mul", "and", "or", "xor", "shl", "lshr", "ashr")
 
@@ -138,14 +138,14 @@ class Checker:
     def end_codes(self, place, end):
         """Return the codes of the end of a block."""
         codes = self.operand_codes(place, end_operands(end))
-        for label, args in edges(end):
+        for label, operands in edges(end):
             if label not in self.labels:
                 codes.append("unknown")
                 continue
             params = self.params[self.labels[label]]
-            if len(params) != len(args):
+            if len(params) != len(operands):
                 codes.append("count")
-            codes.extend(self.kind_codes(args, [[kind] for kind in params]))
+            codes.extend(self.kind_codes(operands, [[kind] for kind in params]))
         if end[0] == "condbr":
             codes.extend(self.kind_codes([end[1]], [["i1"]]))
         if end[0] == "switch":
@@ -156,12 +156,12 @@ class Checker:
 
     def switch_codes(self, end):
         """Return the codes of the value of a switch and of those of its cases."""
-        codes = self.kind_codes([end[1]], [list(_WIDTHS)])
+        codes = self.kind_codes([end[1]], [_INTEGERS])
         values = [value for value, _ in end[2]]
         if any([values[k] >= values[k + 1] for k in range(len(values) - 1)]):
             codes.append("cases")
         kind = operand_kind(self.kinds, end[1])
-        if kind in _WIDTHS and max(values, default=0) >= 1 << width(kind):
+        if kind in _INTEGERS and max(values, default=0) >= 1 << width(kind):
             codes.append("kind")
         return codes
 
@@ -239,5 +239,5 @@ def _definition_places(function):
 def _cast_kinds(op, kind):
     """Return the list of the kinds that the operand of a cast to this kind may have."""
     if op == "trunc":
-        return [other for other in _WIDTHS if width(other) > width(kind)]
-    return [other for other in _WIDTHS if width(other) < width(kind)]
+        return [other for other in _INTEGERS if width(other) > width(kind)]
+    return [other for other in _INTEGERS if width(other) < width(kind)]

@@ -134,6 +134,6 @@ def live_names(function):
         live = liveness.spread(names)
         for label in liveness.labels:
             # The lowest bit stands last in the digits, and belongs to the first name.
-            digits = f"{live[label]:b}"[::-1]
-            found[label].extend([name for name, digit in zip(names, digits) if digit == "1"])
+            digits = f"{live[label]:b}"
+            found[label].extend([name for name, digit in zip(names, digits[::-1]) if digit == "1"])
     return found

@@ -194,8 +194,8 @@ def canonical(function):
             return ("name", names.get(operand[1], operand[1]))
         return operand
 
-    def label_as(label):
-        return labels.get(label, label)
+    def label_as(old):
+        return labels.get(old, old)
 
     changed = []
     for label, params, body, end in blocks:

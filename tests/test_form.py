@@ -262,6 +262,32 @@ class FormTest(unittest.TestCase):
                     self.assertIsInstance(outer, ast.Call, (name, node.lineno))
                     self.assertIn(outer.func.id, ("sorted", "len"), (name, node.lineno))
 
+    def test_what_is_iterated_at_once(self):
+        takers = {"list", "tuple", "dict", "sorted", "sum", "any", "all", "enumerate", "zip", "min", "max"}
+        for name in package_files():
+            tree = tree_of(name)
+            heads = [part.iter for part in ast.walk(tree) if isinstance(part, (ast.For, ast.comprehension))]
+            for node in ast.walk(tree):
+                if isinstance(node, ast.Call) and getattr(node.func, "id", "") in takers and node.args:
+                    heads.append(node.args[0])
+            for node in ast.walk(tree):
+                if not isinstance(node, ast.Call):
+                    continue
+                called = getattr(node.func, "id", getattr(node.func, "attr", ""))
+                if called in ("zip", "enumerate", "reversed", "range", "items", "keys", "values"):
+                    self.assertIn(node, heads, (name, node.lineno))
+
+    def test_generators_are_few(self):
+        found = []
+        for name in package_files():
+            for node in ast.walk(tree_of(name)):
+                if isinstance(node, ast.FunctionDef) and any(isinstance(part, ast.Yield) for part in ast.walk(node)):
+                    found.append(node.name)
+        self.assertEqual(found, ["visits"])
+        for name in package_files():
+            for node in ast.walk(tree_of(name)):
+                self.assertNotEqual(getattr(node, "attr", getattr(node, "id", "")), "visits", name)
+
     def test_generator_expressions_are_not_needed(self):
         for name in package_files():
             for node in ast.walk(tree_of(name)):
