@@ -89,9 +89,9 @@ class Joins:
     """The search for an iterated frontier, which looks at each label once."""
 
     def __init__(self, graph):
-        self.tree = immediate_dominators(graph)
-        self.children = _children(self.tree)
-        self.levels = _levels(graph, self.tree)
+        tree = immediate_dominators(graph)
+        self.children = _children(tree)
+        self.levels = _levels(graph, tree)
         self.targets = {label: targets for label, targets in graph}
         self.waiting = [[] for _ in graph]
         self.seen = {}
@@ -106,7 +106,8 @@ class Joins:
                 continue
             self.seen[label] = True
             for target in self.targets[label]:
-                if self.tree.get(target) != label and self.levels[target] <= self.levels[root]:
+                # What the label itself dominates lies deeper than the root.
+                if self.levels[target] <= self.levels[root]:
                     self.note(target)
             trail.extend(self.children.get(label, []))
 
