@@ -187,6 +187,9 @@ class FormTest(unittest.TestCase):
             for node in ast.walk(tree):
                 if isinstance(node, ast.ClassDef):
                     self.assertRegex(node.name, r"^[A-Z]", name)
+                    for part in ast.walk(node):
+                        if isinstance(part, ast.FunctionDef):
+                            self.assertNotIn("args", bound_names(part) + [part.name], (name, part.name))
                 if isinstance(node, ast.FunctionDef):
                     self.look_at_function(name, node, taken)
             for bound, origin in module_level_names(tree):

@@ -286,6 +286,13 @@ class NamesTest(unittest.TestCase):
             5(): kill $8 ret $1 6(): $10 = add i32 $11, $9 $11 = add i32 $10, $1 br 6() }""")[1][0]
         self.assertEqual(live_names(function), {0: [], 1: [8, 9], 2: [1, 8, 9], 3: [1, 8, 9], 5: [1, 8], 6: [1, 9]})
 
+    def test_very_many_names(self):
+        rows = tuple((k, "add", "i8", (("int", "i8", 1), ("int", "i8", 2)), (), -1) for k in range(3000))
+        uses = tuple((3000 + k, "add", "i8", (("name", k), ("name", 2999 - k)), (), -1) for k in range(0, 3000, 3))
+        blocks = ((0, (), rows, ("br", (1, ()))), (1, (), (), ("br", (2, ()))), (2, (), uses, ("ret", ("name", 2001))))
+        expected = sorted(set(range(0, 3000, 3)) | set(range(2999, -1, -3)) | {2001})
+        self.assertEqual(live_names(("f", "i8", True, blocks)), {0: [], 1: expected, 2: expected})
+
     def test_random_functions(self):
         for seed in range(150):
             rnd = random.Random(seed)

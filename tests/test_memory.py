@@ -32,6 +32,7 @@ class AccessTest(unittest.TestCase):
         self.assertIs(allowed(memory, ("at", 1, 0), 4), False)
         self.assertIs(allowed(memory, ("at", 1, 2), 1), True)
         self.assertIs(allowed(memory, NULL, 1), False)
+        self.assertIs(allowed(memory, ("at", 2, 0), 1), False)
         for sort in SORTS:
             self.assertIs(allowed(((sort, True, (0,)),), ("at", 0, 0), 1), True)
             self.assertIs(allowed(((sort, False, (0,)),), ("at", 0, 0), 1), False)

@@ -342,6 +342,9 @@ class HoldsTest(unittest.TestCase):
         self.look(text.format("i1 1"), (((0, 1),), (), five), False)
         self.look(text.format("i1 1"), (((0, 0),), (), ()), False)
         self.look(text.format("i1 1"), (((0, 0), (0, 1)), (), ()), False)
+        self.look(text.format("i1 0"), (((0, 1),), (), ()), False)
+        self.look(text.format("i1 0"), (((0, 0), (0, 1)), (), ()), False)
+        self.look(text.replace("2()", "2(i8 7)").replace("2(i8 7):", "2($2 i8):").format("i1 0"), ((), (), ((2, single("i8", 6)),)), False)
         self.look(text.format("i1 1"), (((0, 1), (1, 0)), (), ()), False)
         self.look(text.format("i1 1"), (((0, 2),), (), ()), False)
         self.look(text.format("i1 1"), (((7, 0),), (), ()), False)
@@ -387,6 +390,13 @@ class HoldsTest(unittest.TestCase):
         # One name on both sides: the range of the first operand.
         self.look(text.format("ult", "$0, $0"), ((), (), ((2, (0, top - 1, 0, 0)),)), True)
         self.look(text.format("ult", "$0, $0"), ((), (), ((2, (1, top, 0, 0)),)), False)
+
+    def test_a_switch_is_not_a_comparison(self):
+        text = ("export main i32 { 0(): $0 = call i32 get() !1 $1 = icmp ult i32 $0, i32 10 switch $1, 0: 1($0), else 2($0) "
+                "1($2 i32): ret $2 2($3 i32): ret $3 }")
+        for name in (2, 3):
+            self.look(text, ((), (), ((name, (0, 9, 0, 0)),)), False)
+            self.look(text, ((), (), ((name, (10, 2 ** 32 - 1, 0, 0)),)), False)
 
     def test_sites(self):
         text = ("global g 1 0 0 0 0 0 0 0 global h 1 export main i32 { 0(): $0 = alloca 4 $1 = gep $0, 1 $2 = call ptr malloc(i64 4) !1 "
@@ -450,6 +460,14 @@ class HoldsTest(unittest.TestCase):
                       ((0, (("nowhere", 0),)),), ((0, (("at", 0, 0),)),), ((0, ("at", 0)),), ((0, OUTSIDE),), ((0, (OUTSIDE, ("at", 0))),),
                       ((0, (OUTSIDE, OUTSIDE)),), ((0, full("i64")),), ((0, None),), ((0, (None,)),), ((0, ((),)),), ((0, (("outside", 0),)),)):
             self.assertIs(holds_values(text, function, ((), (0,), facts)), False, facts)
+        other = parse_module("export main i32 { 0(): br 1() 1(): condbr i1 0, 2(), 2() 2(): ret i32 0 }")
+        for edge, told in (((1, 0), True), ((True, 0), False), ((1, False), False), ((1, 1), False)):
+            self.assertIs(holds_values(other, other[1][0], ((edge,), (), ())), told, edge)
+        other = parse_module("global g 1 export main i32 { 0(): $1 = alloca 4 ret i32 0 }")
+        for fact, told in (((("at", 1),), True), ((("at", True),), False), ((("nowhere", "g"),), False), ((("at", 1), ("nowhere", "g")), False),
+                           ((("at", 1), ("global", "g")), True), ((("at", 1), ("global", ("g",))), False)):
+            self.assertIs(holds_values(other, other[1][0], ((), (), ((1, fact),))), told, fact)
+        self.assertIs(holds_values(other, other[1][0], ((), (), ((True, (("at", 1),)),))), False)
         for table in (((), (0, 0), ()), ((), (1,), ()), ((), (0, 1), ()), (((0, 0), (0, 0)), (0,), ()), ((), (0,), ((2, ()),))):
             self.assertIs(holds_values(text, function, table), False, table)
 
