@@ -50,9 +50,8 @@ class Nest:
         self.parents = {}
         self.enclosed = {}
         # A header stands behind the headers of the loops around its own.
-        for label in reversed(self.order):
-            if label in self.latches:
-                self.enclose(label)
+        for header in [label for label in reversed(self.order) if label in self.latches]:
+            self.enclose(header)
 
     def outermost(self, label):
         """Return the header of the outermost loop found so far around a label, or the label."""
