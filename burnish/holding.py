@@ -3,6 +3,7 @@
 from burnish.lattice import full, is_single, refine, transfer, within
 from burnish.records import edges, is_division, result_kind
 from burnish.scopes import kinds_of
+from burnish.tables import is_range, is_sites, is_value_table
 from burnish.values import OUTSIDE, Knowledge, is_maker, live_labels, own_names
 from burnish.words import opposite, width
 
@@ -11,82 +12,35 @@ _PURE = (
 )
 
 
-def is_whole(value):
-    """Tell whether a plain value is an integer; True and False are not."""
-    return isinstance(value, int) and not isinstance(value, bool)
-
-
-def _is_row(value, count):
-    """Tell whether a plain value is a tuple of this many items."""
-    return isinstance(value, tuple) and len(value) == count
-
-
-def _ascend(row):
-    """Tell whether a row is strictly ascending."""
-    return all([row[k] < row[k + 1] for k in range(len(row) - 1)])
-
-
-def _are_edges(function, value):
-    """Tell whether a plain value is an ascending tuple of edges of the function."""
-    if not isinstance(value, tuple):
-        return False
+def _are_edges(function, row):
+    """Tell whether edges exist in the function."""
     counts = {block[0]: len(edges(block[3])) for block in function[3]}
-    for edge in value:
-        if not _is_row(edge, 2) or not is_whole(edge[0]) or not is_whole(edge[1]):
+    return all([label in counts and 0 <= slot < counts[label] for label, slot in row])
+
+
+def _is_fact(known, own, kind, fact):
+    """Tell whether a range or sites are a fact of a name of this kind."""
+    if kind != "ptr":
+        return is_range(fact) and all([item < 1 << width(kind) for item in fact])
+    if not is_sites(fact):
+        return False
+    for site in fact:
+        if site != OUTSIDE and site[1] not in (own if site[0] == "at" else known):
             return False
-        if edge[0] not in counts or edge[1] < 0 or edge[1] >= counts[edge[0]]:
-            return False
-    return _ascend(value)
-
-
-def _are_names(names, value):
-    """Tell whether a plain value is an ascending tuple of some of these names."""
-    if not isinstance(value, tuple) or not all([is_whole(name) for name in value]):
-        return False
-    return all([name in names for name in value]) and _ascend(value)
-
-
-def _is_range(kind, value):
-    """Tell whether a plain value has the form of a range of an integer kind."""
-    if not _is_row(value, 4):
-        return False
-    return all([is_whole(item) and 0 <= item < 1 << width(kind) for item in value])
-
-
-def _is_site(known, own, value):
-    """Tell whether a plain value is a site, with a global or an own name that exists."""
-    if value == OUTSIDE:
-        return True
-    if not _is_row(value, 2):
-        return False
-    if value[0] == "at":
-        return is_whole(value[1]) and value[1] in own
-    return value[0] == "global" and isinstance(value[1], str) and value[1] in known
+    return True
 
 
 def has_value_form(module, function, table):
     """Tell whether a plain value has the form of a value table of the function."""
-    if not _is_row(table, 3):
+    if not is_value_table(table):
         return False
     dead, escaped, facts = table
     own = own_names(function)
-    if not _are_edges(function, dead) or not _are_names(own, escaped) or not isinstance(facts, tuple):
-        return False
-    if not all([_is_row(pair, 2) for pair in facts]):
+    if not _are_edges(function, dead) or not all([name in own for name in escaped]):
         return False
     kinds = kinds_of(function)
-    if not _are_names(kinds, tuple([pair[0] for pair in facts])):
-        return False
     known = {record[0]: True for record in module[0]}
-    for name, fact in facts:
-        if kinds[name] != "ptr":
-            if not _is_range(kinds[name], fact):
-                return False
-        elif not isinstance(fact, tuple) or not all([_is_site(known, own, site) for site in fact]):
-            return False
-        elif not _ascend(fact):
-            return False
-    return True
+    return all([name in kinds and _is_fact(known, own, kinds[name], fact) for name, fact in facts])
 
 
 def has_transfer(instruction):
@@ -161,7 +115,11 @@ def open_edges(knowledge, block):
     """
     if has_no_result(knowledge, block):
         return []
-    end = block[3]
+    return edges_taken(knowledge, block[3])
+
+
+def edges_taken(knowledge, end):
+    """Return what `open_edges` does, for an end that a run may come to."""
     taken = taken_slot(knowledge, end)
     found = []
     for slot, edge in enumerate(edges(end)):

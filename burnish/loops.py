@@ -45,7 +45,7 @@ class Nest:
         self.order = reverse_postorder(graph)
         self.latches = _latches(graph, self.order)
         self.sources = backwards(graph)
-        self.outer = {label: label for label in self.order}
+        self.uppers = {label: label for label in self.order}
         self.holders = {label: -1 for label, _ in graph}
         self.parents = {}
         self.enclosed = {}
@@ -56,11 +56,11 @@ class Nest:
     def outermost(self, label):
         """Return the header of the outermost loop found so far around a label, or the label."""
         path = []
-        while self.outer[label] != label:
+        while self.uppers[label] != label:
             path.append(label)
-            label = self.outer[label]
+            label = self.uppers[label]
         for passed in path:
-            self.outer[passed] = label
+            self.uppers[passed] = label
         return label
 
     def members(self, header):
@@ -75,7 +75,7 @@ class Nest:
             seen[label] = True
             found.append(label)
             for source in self.sources[label]:
-                if source in self.outer:
+                if source in self.uppers:
                     waiting.append(self.outermost(source))
         return found
 
@@ -83,7 +83,7 @@ class Nest:
         """Find the loop of a header."""
         labels = [header]
         for member in self.members(header):
-            self.outer[member] = header
+            self.uppers[member] = header
             if member in self.enclosed:
                 self.parents[member] = header
                 labels.extend(self.enclosed[member])

@@ -40,6 +40,8 @@ items keys values pop update append clear extend insert remove reverse setdefaul
 fromhex format format_map mro
 """.split())
 
+LIBRARY = {"heapq": {"heappush", "heappop", "heapify"}}
+
 BARRED_NODES = (
     ast.Global, ast.AsyncFunctionDef, ast.Await, ast.Try, ast.With, ast.Import, ast.Div, ast.NamedExpr, ast.Starred,
 )
@@ -155,6 +157,10 @@ class FormTest(unittest.TestCase):
                 if not isinstance(node, ast.ImportFrom):
                     continue
                 self.assertEqual(node.level, 0, name)
+                if node.module in LIBRARY:
+                    self.assertLessEqual({alias.name for alias in node.names}, LIBRARY[node.module], name)
+                    self.assertTrue(all(alias.asname is None for alias in node.names), name)
+                    continue
                 self.assertTrue(node.module.startswith("burnish."), (name, node.module))
                 source = node.module.split(".")[1] + ".py"
                 uses[name].append(source)

@@ -30,6 +30,19 @@ LISTED = {
                "decide(predicate,kind,a,b) refine(predicate,kind,a,b)",
     "values": "range_of(function,table,operand) sites_of(function,table,operand) live_labels(function,dead) apart(function,table,p,n,q,m)",
     "holding": "holds_values(module,function,table)",
+    "solve": "solve_values(module,function)",
+    "effects": "holds_effects(module,table) solve_effects(module)",
+    "memfacts": "through(module,function,values,effects,facts,instruction) holds_memory(module,function,values,effects,table) "
+                "solve_memory(module,function,values,effects)",
+    "equations": "holds_equations(function,table) solve_equations(function)",
+    "linear": "linear_form(function,table,operand) holds_linear(function,values,table) solve_linear(function,values)",
+    "demand": "holds_demand(function,values,table) solve_demand(function,values)",
+    "forms": "has_shape(value) is_operand(value) is_instruction(value)",
+    "edits": "incoming(function,label) edge_at(function,label,slot) block_names(block) defined_names(function) uses(function,name) "
+             "are_new_names(function,names) are_new_labels(function,labels) replace_uses(function,name,operand) "
+             "is_pure(instruction) is_closed(function,label)",
+    "graphsteps": " ".join(word + "(module,step)" for word in (
+        "prune", "fold_end", "drop_case", "as_condbr", "swap", "join", "cut", "skip", "gather", "fork", "edge_value", "rename")),
 }
 ERRORS = {"BurnishError": "", "TextError": "at", "ScriptError": "at", "UnknownPass": "word", "UnknownFunction": "name", "PackError": "at"}
 
@@ -65,12 +78,24 @@ class InterfaceTest(unittest.TestCase):
         self.assertEqual(shown(machine.depth), "(self)")
         for name in ("out", "end", "steps", "state"):
             self.assertIsInstance(vars(machine)[name], property)
+        self.look_at_body(module, "Machine", {"__init__", "go", "rewind", "depth", "out", "end", "steps", "state"})
+        self.assertTrue(inspect.isgeneratorfunction(module.visits))
+
+    def look_at_body(self, module, name, wanted):
+        """Look whether the methods stand in the body of the class itself."""
         with open(module.__file__, encoding="utf-8") as file:
             tree = ast.parse(file.read())
-        found = [node for node in tree.body if isinstance(node, ast.ClassDef) and node.name == "Machine"][0]
-        names = {node.name for node in found.body if isinstance(node, ast.FunctionDef)}
-        self.assertLessEqual({"__init__", "go", "rewind", "depth", "out", "end", "steps", "state"}, names)
-        self.assertTrue(inspect.isgeneratorfunction(module.visits))
+        found = [node for node in tree.body if isinstance(node, ast.ClassDef) and node.name == name][0]
+        self.assertLessEqual(wanted, {node.name for node in found.body if isinstance(node, ast.FunctionDef)})
+
+    def test_scope(self):
+        module = importlib.import_module("burnish.edits")
+        self.assertEqual(shown(module.Scope), "(function)")
+        self.assertEqual(shown(module.Scope.reaches), "(self,label)")
+        self.assertEqual(shown(module.Scope.strictly), "(self,a,b)")
+        self.assertEqual(shown(module.Scope.available), "(self,operand,label,k)")
+        self.assertEqual(shown(module.Scope.outer), "(self,operand,label)")
+        self.look_at_body(module, "Scope", {"__init__", "reaches", "strictly", "available", "outer"})
 
 
 if __name__ == "__main__":
