@@ -4,6 +4,7 @@ from burnish.flow import immediate, tree_spans
 from burnish.graph import definition_places
 from burnish.records import (
     block_definitions, definitions, edges, end_operands, find_block, find_function, map_end, map_instruction,
+    put_block, put_function,
 )
 from burnish.scopes import block_numbers, block_targets
 from burnish.tables import rises
@@ -114,6 +115,19 @@ def uses(function, name):
     return found
 
 
+def used_names(function):
+    """Return a dict with the names that a function uses."""
+    found = {}
+    for _, _, body, end in function[3]:
+        operands = end_operands(end)
+        for instruction in body:
+            operands.extend(instruction[3])
+        for operand in operands:
+            if operand[0] == "name":
+                found[operand[1]] = True
+    return found
+
+
 def is_used(function, name):
     """Tell whether a function uses a name."""
     return uses(function, name) != []
@@ -202,3 +216,25 @@ def instruction_at(block, k):
     if block is None or k < 0 or k >= len(block[2]):
         return None
     return block[2][k]
+
+
+def is_known(module, operand):
+    """Tell whether an operand is no global that the module does not have."""
+    return operand[0] != "global" or any([record[0] == operand[1] for record in module[0]])
+
+
+def with_body(block, body):
+    """Return the block with this body, a list or tuple of instructions."""
+    return (block[0], block[1], tuple(body), block[3])
+
+
+def put_instructions(module, function, block, k, rows):
+    """Return the module with these instructions in the place of instruction k of a block."""
+    body = block[2][:k] + tuple(rows) + block[2][k + 1:]
+    return put_function(module, put_block(function, with_body(block, body)))
+
+
+def replace_result(module, function, block, k, operand):
+    """Return the module without instruction k of a block, its result replaced by an operand."""
+    left = put_block(function, with_body(block, block[2][:k] + block[2][k + 1:]))
+    return put_function(module, change_names(left, {block[2][k][0]: operand}))

@@ -10,6 +10,7 @@ from burnish.edits import (
 )
 from burnish.records import (
     edges, find_block, find_function, map_end, map_instruction, map_labels, put_block, put_function, with_edge,
+    with_edges,
 )
 from burnish.scopes import kinds_of, operand_kind, reached
 from burnish.words import opposite
@@ -169,14 +170,13 @@ def gather(module, step):
 
 def lead_edges(function, places, target):
     """Return the function in which these edges lead to the target with the args they had."""
-    slots = {}
-    for label, slot in places:
-        slots.setdefault(label, []).append(slot)
+    led = {place: True for place in places}
     changed = []
     for label, params, body, end in function[3]:
-        for slot in slots.get(label, ()):
-            end = with_edge(end, slot, (target, edges(end)[slot][1]))
-        changed.append((label, params, body, end))
+        row = []
+        for slot, (old, operands) in enumerate(edges(end)):
+            row.append((target if (label, slot) in led else old, operands))
+        changed.append((label, params, body, with_edges(end, row)))
     return with_blocks(function, changed)
 
 
@@ -248,7 +248,12 @@ def renamed(function, labels, names):
 
 def renamed_block(block, labels, names):
     """Return the block with the labels and names of two dicts; what is not in them stays."""
-    change = renaming({old: ("name", new) for old, new in names.items()})
+    return changed_block(block, labels, names, {old: ("name", new) for old, new in names.items()})
+
+
+def changed_block(block, labels, names, changes):
+    """Return the block with the labels and defined names of two dicts, and operands of a third one for used names."""
+    change = renaming(changes)
 
     def label_as(old):
         return labels.get(old, old)

@@ -51,7 +51,7 @@ def edges(end):
     return []
 
 
-def _with_edges(end, row):
+def with_edges(end, row):
     """Return the end with the edges of the list in its slots."""
     if end[0] == "br":
         return ("br", row[0])
@@ -67,7 +67,7 @@ def with_edge(end, slot, edge):
     """Return the end with this edge in that slot."""
     row = edges(end)
     row[slot] = edge
-    return _with_edges(end, row)
+    return with_edges(end, row)
 
 
 def end_operands(end):
@@ -97,12 +97,12 @@ def map_end(end, change):
     row = []
     for label, args in edges(end):
         row.append((label, tuple([change(operand) for operand in args])))
-    return _with_edges(end, row)
+    return with_edges(end, row)
 
 
 def map_labels(end, change):
     """Return the end with the label of each edge changed."""
-    return _with_edges(end, [(change(label), args) for label, args in edges(end)])
+    return with_edges(end, [(change(label), args) for label, args in edges(end)])
 
 
 def block_definitions(block):

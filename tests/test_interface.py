@@ -43,6 +43,20 @@ LISTED = {
              "is_pure(instruction) is_closed(function,label)",
     "graphsteps": " ".join(word + "(module,step)" for word in (
         "prune", "fold_end", "drop_case", "as_condbr", "swap", "join", "cut", "skip", "gather", "fork", "edge_value", "rename")),
+    "paramsteps": " ".join(word + "(module,step)" for word in ("copy", "copy_region", "add_param", "same_param", "use_params")),
+    "twins": "twins(module,step)",
+    "valuesteps": " ".join(word + "(module,step)" for word in (
+        "insert", "drop_names", "delete_call", "same", "prefer", "move", "rule", "ranged_rule", "ranges", "demanded", "undemanded",
+        "equal", "linear")),
+    "memsteps": " ".join(word + "(module,step)" for word in (
+        "delete_load", "insert_load", "forward", "same_store", "dead_store", "unread_store"))
+                + " is_safe(module,function,facts,label,k,op,kind,pointer)",
+    "objectsteps": " ".join(word + "(module,step)" for word in ("drop_kills", "split_alloca", "constant_load", "fix_global", "drop_global")),
+    "callsteps": " ".join(word + "(module,step)" for word in (
+        "inline", "split_entry", "tail", "drop_argument", "same_argument", "drop_result", "same_function", "drop_function")),
+    "check": "apply_step(module,step) check(module,certificate)",
+    "rules": "rewrite(function,instruction,number,names) ranged(function,values,instruction,number,names)",
+    "combine": "combine(module,name,*,amount=0)",
 }
 ERRORS = {"BurnishError": "", "TextError": "at", "ScriptError": "at", "UnknownPass": "word", "UnknownFunction": "name", "PackError": "at"}
 
