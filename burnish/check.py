@@ -17,17 +17,17 @@ from burnish.valuesteps import (
 )
 
 STEPS = {
-    "prune": prune, "fold_end": fold_end, "drop_case": drop_case, "as_condbr": as_condbr, "swap": swap, "join": join,
-    "cut": cut, "skip": skip, "gather": gather, "copy": copy, "copy_region": copy_region, "twins": twins,
-    "add_param": add_param, "same_param": same_param, "use_params": use_params, "fork": fork, "edge_value": edge_value,
-    "rename": rename, "insert": insert, "drop_names": drop_names, "delete_call": delete_call,
-    "delete_load": delete_load, "same": same, "prefer": prefer, "move": move, "rule": rule, "ranged_rule": ranged_rule, "ranges": ranges,
-    "demanded": demanded, "undemanded": undemanded, "equal": equal, "linear": linear, "forward": forward,
-    "same_store": same_store, "insert_load": insert_load, "dead_store": dead_store, "unread_store": unread_store,
-    "split_alloca": split_alloca, "drop_kills": drop_kills, "constant_load": constant_load, "fix_global": fix_global,
-    "drop_global": drop_global, "inline": inline, "split_entry": split_entry, "tail": tail,
-    "drop_argument": drop_argument, "same_argument": same_argument, "drop_result": drop_result,
-    "same_function": same_function, "drop_function": drop_function,
+    "prune": prune, "fold_end": fold_end, "drop_case": drop_case, "as_condbr": as_condbr, "swap": swap,
+    "join": join, "cut": cut, "skip": skip, "gather": gather, "copy": copy, "copy_region": copy_region,
+    "twins": twins, "add_param": add_param, "same_param": same_param, "use_params": use_params, "fork": fork,
+    "edge_value": edge_value, "rename": rename, "insert": insert, "drop_names": drop_names,
+    "delete_call": delete_call, "delete_load": delete_load, "same": same, "prefer": prefer, "move": move,
+    "rule": rule, "ranged_rule": ranged_rule, "ranges": ranges, "demanded": demanded, "undemanded": undemanded,
+    "equal": equal, "linear": linear, "forward": forward, "same_store": same_store, "insert_load": insert_load,
+    "dead_store": dead_store, "unread_store": unread_store, "split_alloca": split_alloca, "drop_kills": drop_kills,
+    "constant_load": constant_load, "fix_global": fix_global, "drop_global": drop_global, "inline": inline,
+    "split_entry": split_entry, "tail": tail, "drop_argument": drop_argument, "same_argument": same_argument,
+    "drop_result": drop_result, "same_function": same_function, "drop_function": drop_function,
 }
 
 

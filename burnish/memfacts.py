@@ -1,151 +1,23 @@
-"""Memory tables: what loads at the beginning of a block would give.
-
-A fact is (pointer, kind, value): a load of this kind at this pointer does not
-trap and gives this value. Inside a block, facts are kept by their pointers: a
-dict from each pointer to a dict with the pairs (kind, value).
-"""
+"""Memory tables: what loads at the beginning of a block would give."""
 
 from heapq import heappop, heappush
 
+from burnish.carrying import Carrier, Facts
 from burnish.edits import Scope
-from burnish.effects import callee_effects, holds_effects
+from burnish.effects import holds_effects
 from burnish.forms import is_memory_table
 from burnish.graph import graph_of, reverse_postorder
 from burnish.holding import holds_values
 from burnish.records import edges
-from burnish.values import OUTSIDE, Knowledge, live_labels
-from burnish.words import size
-
-_KINDS = ("i1", "i8", "i16", "i32", "i64", "ptr")
-
-# These built-in callees change no memory that is there, and malloc makes new memory alone.
-_HARMLESS = ("get", "put", "exit", "malloc")
-
-
-def rows_of(facts):
-    """Return the facts by their pointers."""
-    rows = {}
-    for pointer, kind, worth in facts:
-        rows.setdefault(pointer, {})[(kind, worth)] = True
-    return rows
-
-
-def facts_of(rows):
-    """Return a dict with the facts that are kept by their pointers."""
-    return {(pointer, kind, worth): True for pointer, pairs in rows.items() for kind, worth in pairs}
-
-
-def _zero(kind):
-    """Return the operand that bytes 0 are read as."""
-    return ("null",) if kind == "ptr" else ("int", kind, 0)
-
-
-class Carrier:
-    """Carries facts through the instructions of a function."""
-
-    def __init__(self, module, function, values, effects):
-        self.module = module
-        self.effects = effects
-        self.knowledge = Knowledge(function, values)
-        # From each site to the pointers that have it, and what a callee can reach.
-        self.holders = {}
-        self.exposed = [OUTSIDE]
-        for name, kind in self.knowledge.kinds.items():
-            if kind == "ptr":
-                self.hold(("name", name))
-        for record in module[0]:
-            self.hold(("global", record[0]))
-            self.exposed.append(("global", record[0]))
-        self.exposed.extend([("at", name) for name in self.knowledge.escaped])
-
-    def hold(self, pointer):
-        """Note the sites of a pointer."""
-        for site in self.knowledge.sites_of(pointer):
-            self.holders.setdefault(site, []).append(pointer)
-
-    def meeting(self, sites):
-        """Return a list of the sites that may meet one of these."""
-        found = {}
-        for site in sites:
-            found[site] = True
-            if site == OUTSIDE:
-                for other in self.exposed:
-                    found[other] = True
-            elif self.knowledge.covers(OUTSIDE, site):
-                found[OUTSIDE] = True
-        return list(found)
-
-    def touched(self, rows, sites):
-        """Return the list of the pointers of facts that have one of the sites."""
-        if sum([len(self.holders.get(site, ())) for site in sites]) > len(rows):
-            told = {site: True for site in sites}
-            return [other for other in rows if any([site in told for site in self.knowledge.sites_of(other)])]
-        found = {}
-        for site in sites:
-            for other in self.holders.get(site, ()):
-                if other in rows:
-                    found[other] = True
-        return list(found)
-
-    def forget(self, rows, sites):
-        """Remove the facts whose pointers have one of the sites."""
-        for other in self.touched(rows, sites):
-            del rows[other]
-
-    def store(self, rows, instruction):
-        """Carry facts through a store."""
-        _, _, kind, (worth, pointer), _, _ = instruction
-        for other in self.touched(rows, self.meeting(self.knowledge.sites_of(pointer))):
-            kept = {}
-            for pair in rows[other]:
-                if self.knowledge.apart(other, size(pair[0]), pointer, size(kind)):
-                    kept[pair] = True
-            if kept:
-                rows[other] = kept
-            else:
-                del rows[other]
-        rows.setdefault(pointer, {})[(kind, worth)] = True
-
-    def call(self, rows, instruction):
-        """Carry facts through a call."""
-        callee = instruction[4][0]
-        if callee == "free":
-            self.forget(rows, self.meeting(self.knowledge.sites_of(instruction[3][0])))
-        elif callee not in _HARMLESS:
-            told = callee_effects(self.module, self.effects, instruction)
-            if told is None or "frees" in told or "writes" in told:
-                self.forget(rows, self.exposed)
-
-    def carry(self, rows, instruction):
-        """Change the facts at an instruction to those behind it."""
-        name, op, kind, operands, data, _ = instruction
-        if op == "store":
-            self.store(rows, instruction)
-        elif op == "load":
-            rows.setdefault(operands[0], {})[(kind, ("name", name))] = True
-        elif op == "alloca":
-            made = rows.setdefault(("name", name), {})
-            for other in _KINDS:
-                if size(other) <= data[0]:
-                    made[(other, _zero(other))] = True
-        elif op == "kill":
-            self.forget(rows, self.meeting(self.knowledge.sites_of(operands[0])))
-        elif op == "call":
-            self.call(rows, instruction)
-
-    def rows_at(self, facts, block, k):
-        """Return the facts at (block, k) by their pointers, from those at its beginning."""
-        rows = rows_of(facts)
-        for instruction in block[2][:k]:
-            self.carry(rows, instruction)
-        return rows
+from burnish.values import Knowledge, live_labels
 
 
 def through(module, function, values, effects, facts, instruction):
     """Return the ascending list of the facts behind an instruction."""
-    rows = rows_of(facts)
-    Carrier(module, function, values, effects).carry(rows, instruction)
-    return sorted(facts_of(rows))
+    carrier = Carrier(module, function, values, effects)
+    held = Facts(carrier, facts)
+    carrier.carry(held, instruction)
+    return sorted(held.listed())
 
 
 def _has_kinds(knowledge, fact):
@@ -205,16 +77,16 @@ def holds_facts(module, function, values, effects, table):
     dead = {edge: True for edge in values[0]}
     carrier = Carrier(module, function, values, effects)
     for label in live_labels(function, values[0]):
-        rows = None
+        facts = None
         for slot, (target, operands) in enumerate(edges(blocks[label][3])):
             if (label, slot) in dead or target not in told:
                 continue
-            if rows is None:
-                rows = carrier.rows_at(told.get(label, ()), blocks[label], len(blocks[label][2]))
+            if facts is None:
+                facts = carrier.facts_at(told.get(label, ()), blocks[label], len(blocks[label][2]))
             changes = _changes(blocks[target], operands)
             for fact in told[target]:
                 pointer, kind, worth = _before(fact, changes)
-                if (kind, worth) not in rows.get(pointer, ()):
+                if (kind, worth) not in facts.known_of(pointer):
                     return False
     return True
 
@@ -240,10 +112,10 @@ class Finder:
             found.append(operand)
         return found
 
-    def brought(self, label, changes, rows):
+    def brought(self, label, changes, facts):
         """Return a dict with the facts that an edge brings to a label."""
         found = {}
-        for pointer, pairs in rows.items():
+        for pointer, pairs in facts.pairs.items():
             pointers = self.forms(label, changes, pointer)
             if not pointers:
                 continue
@@ -253,19 +125,19 @@ class Finder:
                         found[(form, kind, other)] = True
         return found
 
-    def kept(self, facts, changes, rows):
+    def kept(self, rows, changes, facts):
         """Return a dict with those of the facts of a label that an edge brings."""
         found = {}
-        for fact in facts:
+        for fact in rows:
             pointer, kind, worth = _before(fact, changes)
-            if (kind, worth) in rows.get(pointer, ()):
+            if (kind, worth) in facts.known_of(pointer):
                 found[fact] = True
         return found
 
     def pass_on(self, label):
         """Carry the facts of a label to its targets; return those whose facts are others now."""
         block = self.blocks[label]
-        rows = self.carrier.rows_at(self.starts[label], block, len(block[2]))
+        facts = self.carrier.facts_at(self.starts[label], block, len(block[2]))
         changed = []
         for slot, (target, operands) in enumerate(edges(block[3])):
             if (label, slot) in self.dead:
@@ -273,9 +145,9 @@ class Finder:
             changes = _changes(self.blocks[target], operands)
             before = self.starts.get(target)
             if before is None:
-                self.starts[target] = self.brought(target, changes, rows)
+                self.starts[target] = self.brought(target, changes, facts)
             else:
-                self.starts[target] = self.kept(before, changes, rows)
+                self.starts[target] = self.kept(before, changes, facts)
             if before is None or len(self.starts[target]) < len(before):
                 changed.append(target)
         return changed

@@ -3,10 +3,11 @@
 They rest on facts: a value table, an effect table and a memory table that hold.
 """
 
+from burnish.carrying import Facts
 from burnish.edits import (
     block_in, change_names, instruction_at, put_instructions, used_names, with_blocks, with_body,
 )
-from burnish.memfacts import holds_memory, rows_of
+from burnish.memfacts import holds_memory
 from burnish.records import find_function, put_block, put_function
 from burnish.safety import Safety
 from burnish.tables import rises
@@ -17,7 +18,7 @@ from burnish.words import size
 def is_safe(module, function, facts, label, k, op, kind, pointer):
     """Tell whether a load or store would be safe at a place."""
     safety = Safety(module, function, facts)
-    return safety.is_safe(safety.rows_at(label, k), op, kind, pointer)
+    return safety.is_safe(safety.facts_at(label, k), op, kind, pointer)
 
 
 def _holding(module, function, facts):
@@ -28,8 +29,8 @@ def _holding(module, function, facts):
 def _at_places(module, step, op, tell):
     """Return what is told of the instructions of an op at the places of a step, None if one cannot be told of.
 
-    `tell` is a function of a Safety, the facts at the place by their pointers,
-    and the instruction; it returns None to refuse. The places are the keys.
+    `tell` is a function of a Safety, the facts at the place and the
+    instruction; it returns None to refuse. The places are the keys.
     """
     _, name, facts, places = step
     function = find_function(module, name)
@@ -44,16 +45,16 @@ def _at_places(module, step, op, tell):
         if label not in safety.blocks:
             return None
         block = safety.blocks[label]
-        rows = rows_of(safety.starts.get(label, ()))
+        held = Facts(safety.carrier, safety.starts.get(label, ()))
         done = 0
         for k in row:
             instruction = instruction_at(block, k)
             if instruction is None or instruction[1] != op:
                 return None
             for passed in block[2][done:k]:
-                safety.carrier.carry(rows, passed)
+                safety.carrier.carry(held, passed)
             done = k
-            told = tell(safety, rows, instruction)
+            told = tell(safety, held, instruction)
             if told is None:
                 return None
             found[(label, k)] = told
@@ -74,9 +75,9 @@ def _remove_at(module, name, places):
     return put_function(module, without_places(find_function(module, name), places))
 
 
-def _safe_load(safety, rows, instruction):
+def _safe_load(safety, held, instruction):
     """Return the result of a load that is safe, else None."""
-    return instruction[0] if safety.is_safe_load(rows, instruction[2], instruction[3][0]) else None
+    return instruction[0] if safety.is_safe_load(held, instruction[2], instruction[3][0]) else None
 
 
 def delete_load(module, step):
@@ -104,10 +105,10 @@ def insert_load(module, step):
     return put_function(module, put_block(function, with_body(block, body)))
 
 
-def _known_result(safety, rows, instruction):
+def _known_result(safety, held, instruction):
     """Return the pair of the result of a load and what is known of it, None if nothing is."""
     name, _, kind, operands, _, _ = instruction
-    known = [worth for other, worth in rows.get(operands[0], ()) if other == kind]
+    known = [worth for other, worth in held.known_of(operands[0]) if other == kind]
     return (name, min(known)) if known else None
 
 
@@ -139,12 +140,12 @@ def forward(module, step):
     return put_function(module, change_names(left, changes))
 
 
-def _needless_store(safety, rows, instruction):
+def _needless_store(safety, held, instruction):
     """Return True for a store that cannot trap and changes nothing, else None."""
     _, _, kind, (worth, pointer), _, _ = instruction
-    if kind == "i1" or (kind, worth) not in rows.get(pointer, ()):
+    if kind == "i1" or (kind, worth) not in held.known_of(pointer):
         return None
-    return True if safety.is_safe_store(rows, kind, pointer) else None
+    return True if safety.is_safe_store(held, kind, pointer) else None
 
 
 def same_store(module, step):
@@ -173,17 +174,17 @@ def dead_store(module, step):
     if first[2] != second[2] or pointer != second[3][1] or not _holding(module, function, facts):
         return None
     safety = Safety(module, function, facts)
-    if not safety.is_safe_store(safety.rows_at(label, k), first[2], pointer):
+    if not safety.is_safe_store(safety.facts_at(label, k), first[2], pointer):
         return None
     if not all([_is_passed(safety, between, first) for between in block[2][k + 1:j]]):
         return None
     return put_instructions(module, function, block, k, ())
 
 
-def _unread_store(safety, rows, instruction):
+def _unread_store(safety, held, instruction):
     """Return True for a store that cannot trap and that no load reads, else None."""
     _, _, kind, (_, pointer), _, _ = instruction
-    if not safety.is_safe_store(rows, kind, pointer):
+    if not safety.is_safe_store(held, kind, pointer):
         return None
     return True if safety.is_unread(kind, pointer) else None
 

@@ -3,8 +3,8 @@
 What is told here rests on three tables that hold.
 """
 
+from burnish.carrying import Carrier
 from burnish.effects import callee_effects
-from burnish.memfacts import Carrier
 from burnish.records import builtin
 from burnish.values import OUTSIDE
 from burnish.words import size
@@ -92,9 +92,9 @@ class Safety:
             self.known_bases[name] = (found[0], total - ahead)
         return (found[0], total)
 
-    def rows_at(self, label, k):
-        """Return the facts at a place by their pointers."""
-        return self.carrier.rows_at(self.starts.get(label, ()), self.blocks[label], k)
+    def facts_at(self, label, k):
+        """Return the facts at a place."""
+        return self.carrier.facts_at(self.starts.get(label, ()), self.blocks[label], k)
 
     def is_inside(self, kind, pointer):
         """Tell whether an access is inside an alloca that lives as long as the call."""
@@ -105,9 +105,9 @@ class Safety:
             return False
         return name not in self.knowledge.escaped or OUTSIDE not in self.killed and not self.calls_free
 
-    def has_fact(self, rows, kind, pointer):
+    def has_fact(self, facts, kind, pointer):
         """Tell whether facts contain one with this pointer and kind."""
-        return any([other == kind for other, _ in rows.get(pointer, ())])
+        return any([other == kind for other, _ in facts.known_of(pointer)])
 
     def keeps_kind(self, kind, pointer):
         """Tell whether what a load inside an alloca finds there surely has its kind."""
@@ -117,27 +117,27 @@ class Safety:
             return len(put) == 0
         return site not in self.integers_put and (len(put) == 0 or len(put) == 1 and pointer in put)
 
-    def is_safe_load(self, rows, kind, pointer):
+    def is_safe_load(self, facts, kind, pointer):
         """Tell whether a load would be safe where these facts hold."""
-        if self.has_fact(rows, kind, pointer):
+        if self.has_fact(facts, kind, pointer):
             return True
         if not self.is_inside(kind, pointer) or self.base_of(pointer)[0] in self.knowledge.escaped:
             return False
         return self.keeps_kind(kind, pointer)
 
-    def is_safe_store(self, rows, kind, pointer):
+    def is_safe_store(self, facts, kind, pointer):
         """Tell whether a store would be safe where these facts hold."""
         if self.is_inside(kind, pointer):
             return True
-        if not self.has_fact(rows, kind, pointer):
+        if not self.has_fact(facts, kind, pointer):
             return False
         return not any([site == OUTSIDE or site in self.constants for site in self.knowledge.sites_of(pointer)])
 
-    def is_safe(self, rows, op, kind, pointer):
+    def is_safe(self, facts, op, kind, pointer):
         """Tell whether a load or store would be safe where these facts hold."""
         if op == "load":
-            return self.is_safe_load(rows, kind, pointer)
-        return self.is_safe_store(rows, kind, pointer)
+            return self.is_safe_load(facts, kind, pointer)
+        return self.is_safe_store(facts, kind, pointer)
 
     def is_own(self, pointer):
         """Tell whether a pointer has only sites that are own names and have not escaped."""
