@@ -138,6 +138,11 @@ class Shaper:
 
     def value(self, env):
         rnd = self.rnd
+        earlier = [row for row in self.body if row[0] != -1 and row[5] == -1 and row[1] != "alloca"]
+        if earlier and rnd.random() < 0.2:
+            row = rnd.choice(earlier)
+            env.setdefault("i1" if row[1] == "icmp" else row[2], []).append(self.add(*row[1:5]))
+            return
         kind = rnd.choice(("i1", "i8", "i8", "i32", "i64"))
         word = rnd.choice(("binary",) * 4 + ("icmp", "icmp", "select", "cast", "cast", "gep"))
         if word == "binary":
