@@ -115,17 +115,17 @@ def uses(function, name):
     return found
 
 
+def used_in(block):
+    """Return a dict with the names that a block uses."""
+    operands = end_operands(block[3])
+    for instruction in block[2]:
+        operands.extend(instruction[3])
+    return {operand[1]: True for operand in operands if operand[0] == "name"}
+
+
 def used_names(function):
     """Return a dict with the names that a function uses."""
-    found = {}
-    for _, _, body, end in function[3]:
-        operands = end_operands(end)
-        for instruction in body:
-            operands.extend(instruction[3])
-        for operand in operands:
-            if operand[0] == "name":
-                found[operand[1]] = True
-    return found
+    return {name: True for block in function[3] for name in used_in(block)}
 
 
 def is_used(function, name):
@@ -201,6 +201,17 @@ def is_used_outside(function, block):
     """Tell whether another block uses a name that this block defines."""
     own = {name: True for name in block_names(block)}
     return any([other[0] != block[0] and block_uses(other, own) != [] for other in function[3]])
+
+
+def open_labels(function):
+    """Return a dict with the labels of the blocks that are not closed."""
+    makers = {name: block[0] for block in function[3] for name in block_names(block)}
+    found = {}
+    for block in function[3]:
+        for name in used_in(block):
+            if makers[name] != block[0]:
+                found[makers[name]] = True
+    return found
 
 
 def block_in(module, name, label):

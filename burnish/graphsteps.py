@@ -243,7 +243,8 @@ def rename(module, step):
 
 def renamed(function, labels, names):
     """Return the function with the labels and names that two dicts give for the old ones."""
-    return with_blocks(function, [renamed_block(block, labels, names) for block in function[3]])
+    changes = {old: ("name", new) for old, new in names.items()}
+    return with_blocks(function, [changed_block(block, labels, names, changes) for block in function[3]])
 
 
 def renamed_block(block, labels, names):

@@ -4,7 +4,7 @@ from burnish.edits import (
     Scope, are_new_labels, are_new_names, block_in, block_names, block_uses, change_block, change_names, edges_into,
     incoming, is_known, is_used_outside, with_blocks,
 )
-from burnish.graphsteps import lead_edges, renamed_block
+from burnish.graphsteps import changed_block, lead_edges, renamed_block
 from burnish.records import edges, find_function, put_block, put_function, with_edges
 from burnish.scopes import kinds_of, operand_kind
 from burnish.tables import rises
@@ -66,7 +66,9 @@ def copy_region(module, step):
     if any([label in labels for label, _ in places]):
         return None
     new_labels = _numbered(labels, fresh)
-    made = [renamed_block(block, new_labels, _numbered(own, names)) for block in region]
+    new_names = _numbered(own, names)
+    changes = {old: ("name", new) for old, new in new_names.items()}
+    made = [changed_block(block, new_labels, new_names, changes) for block in region]
     led = lead_edges(function, places, new_labels[header])
     return put_function(module, with_blocks(led, list(led[3]) + made))
 

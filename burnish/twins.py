@@ -1,6 +1,6 @@
 """The step that leads an edge to the twin of its block."""
 
-from burnish.edits import block_in, block_names, edge_at, is_used_outside
+from burnish.edits import block_in, block_names, edge_at, open_labels
 from burnish.graphsteps import renamed_block
 from burnish.records import edges, find_function, map_labels, put_block, put_function, with_edge
 from burnish.tables import rises
@@ -32,12 +32,12 @@ def _are_twins(function, pairs):
     blocks = {block[0]: block for block in function[3]}
     entry = function[3][0][0]
     told = {pair: True for pair in pairs}
+    opened = open_labels(function)
     for pair in pairs:
         if pair[0] == pair[1] or entry in pair:
             return False
-        for label in pair:
-            if label not in blocks or is_used_outside(function, blocks[label]):
-                return False
+        if any([label not in blocks or label in opened for label in pair]):
+            return False
         if not are_alike(blocks[pair[0]], blocks[pair[1]], told):
             return False
     return True
