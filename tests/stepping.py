@@ -27,7 +27,7 @@ class StepCase(unittest.TestCase):
         if "{" not in text:
             text = self.head + " export main i32 { " + text + " }"
         elif "export main" not in text:
-            text = self.head + text + " export main i32 { 0(): ret i32 0 }"
+            text = self.head + " " + text + " export main i32 { 0(): ret i32 0 }"
         module = parse_module(text)
         self.assertEqual(faults(module), [])
         return module
