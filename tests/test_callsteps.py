@@ -64,7 +64,6 @@ class InlineTest(StepCase):
 class SplitEntryTest(StepCase):
 
     def test_split_entry(self):
-        text = "internal f i32 { 4($0 i32, $1 ptr): $2 = load i32 $1 !1 $3 = add i32 $0, $2 ret $3 } global_"
         text = "global g 1 2 3 4 internal f i32 { 4($0 i32, $1 ptr): $2 = load i32 $1 !1 $3 = add i32 $0, $2 ret $3 } export main i32 { 0(): $0 = call i32 get() !1 $1 = call i32 f($0, @g) !2 ret $1 }"
         self.done(text, ("split_entry", "f", 9, (8, 7)), text.replace("4($0 i32", "9($8 i32, $7 ptr): br 4($8, $7) 4($0 i32"))
         self.done(text, ("split_entry", "main", 3, ()), text.replace("0(): $0 = call", "3(): br 0() 0(): $0 = call"))
