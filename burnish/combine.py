@@ -26,6 +26,8 @@ class Rewriter:
             for instruction in body:
                 self.makers[instruction[0]] = instruction
         self.replaced = {}
+        # The names that are found to have the full range in every table.
+        self.full = {param: True for param, _ in function[3][0][1]}
         # What the value table of the function as it is says, None where that is not solved.
         self.solved = ()
         self.knowledge = None
@@ -65,13 +67,45 @@ class Rewriter:
             self.solved = solve_values(self.module, function)
             self.knowledge = Knowledge(function, self.solved)
 
+    def is_full(self, operand):
+        """Tell whether an operand is found to have the full range in every table."""
+        return operand[0] == "name" and operand[1] in self.full
+
+    def gives_full(self, instruction):
+        """Tell whether a result has the full range by what makes it."""
+        _, op, _, operands, _, _ = instruction
+        if op in ("load", "call"):
+            return True
+        return op in ("add", "sub", "xor") and any([self.is_full(operand) for operand in operands])
+
+    def asks_for_ranges(self, instruction):
+        """Tell whether a rule that asks for ranges may match an instruction on which no other rule matches.
+
+        Where a range is full, only constants beside it could make a rule
+        match, and for these there are other rules.
+        """
+        _, op, _, operands, _, _ = instruction
+        if not has_ranged_rule(instruction):
+            return False
+        if op in ("select", "ashr"):
+            return not self.is_full(operands[0])
+        told = [operand[0] == "int" or self.is_full(operand) for operand in operands]
+        return not all(told) or not any([self.is_full(operand) for operand in operands])
+
+    def note_change(self, name, remains):
+        """Note that a name is made anew; tell whether it still has the full range, or what stands for it."""
+        self.knowledge = None
+        if name in self.full and not remains:
+            # Other names were found to be full because this one was.
+            self.full = {param: True for param, _ in self.function[3][0][1]}
+
     def step_for(self, label, k, instruction):
         """Return (step, result) of the rule for the instruction at a place, None if none matches."""
         name = self.function[0]
         told = first_rewrite(self, instruction, 0)
         if told is not None:
             return (("rule", name, label, k, told[0], ()), told[1])
-        if not has_ranged_rule(instruction):
+        if not self.asks_for_ranges(instruction):
             return None
         self.solve()
         told = first_ranged(self.knowledge, instruction, 0)
@@ -79,7 +113,7 @@ class Rewriter:
             return None
         return (("ranged_rule", name, self.solved, label, k, told[0], ()), told[1])
 
-    def is_full(self):
+    def is_over(self):
         """Tell whether the certificate has as many steps as it may have."""
         return self.most > 0 and len(self.certificate) == self.most
 
@@ -87,28 +121,31 @@ class Rewriter:
         """Rewrite the instruction at a place until no rule matches; tell whether it is left."""
         body = self.bodies[label]
         body[k] = map_instruction(body[k], self.replacement)
-        while not self.is_full():
+        while not self.is_over():
             told = self.step_for(label, k, body[k])
             if told is None:
-                return True
+                break
             step, (word, result) = told
             self.certificate.append(step)
-            self.knowledge = None
             name = body[k][0]
             if word == "operand":
+                self.note_change(name, self.is_full(result))
                 self.replaced[name] = result
                 del self.makers[name]
                 del body[k]
                 return False
+            self.note_change(name, self.gives_full(result[0]))
             body[k] = result[0]
             self.makers[name] = result[0]
+        if self.gives_full(body[k]):
+            self.full[body[k][0]] = True
         return True
 
     def sweep(self, labels):
         """Look at each instruction of these blocks once."""
         for label in labels:
             k = 0
-            while k < len(self.bodies[label]) and not self.is_full():
+            while k < len(self.bodies[label]) and not self.is_over():
                 if self.look_at(label, k):
                     k += 1
 
@@ -119,7 +156,7 @@ def combine(module, name, *, amount=0):
     labels = reached(function)
     rewriter = Rewriter(module, function, amount)
     before = -1
-    while before < len(rewriter.certificate) and not rewriter.is_full():
+    while before < len(rewriter.certificate) and not rewriter.is_over():
         before = len(rewriter.certificate)
         rewriter.sweep(labels)
     return tuple(rewriter.certificate)
