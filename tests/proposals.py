@@ -435,7 +435,12 @@ class Proposer:
         return (self.name,)
 
     def of_same_function(self):
-        return (self.name, self.rnd.choice(self.module[1])[0])
+        names = [function[0] for function in self.module[1]]
+        twins = [(name, name[:-1]) for name in names if name.endswith("2") and name[:-1] in names]
+        if twins and self.rnd.random() < 0.8:
+            pair = self.rnd.choice(twins)
+            return pair if self.rnd.random() < 0.5 else pair[::-1]
+        return (self.name, self.rnd.choice(names))
 
 
 def block_of(module, name, label):

@@ -183,6 +183,15 @@ class Shaper:
     def access(self, env):
         kind = self.rnd.choice(("i8", "i8", "i32", "i32", "i64", "i1", "ptr"))
         pointer = self.pointer(env, kind)
+        earlier = [row for row in self.body if row[1] in ("load", "store")]
+        if earlier and self.rnd.random() < 0.35:
+            # Store to the same place again, often what stands there.
+            _, op, kind, operands, _, _ = self.rnd.choice(earlier[-2:])
+            value = ("name", earlier[-1][0]) if op == "load" else operands[0]
+            if op == "load" and earlier[-1][1:4] != ("load", kind, operands) or self.rnd.random() < 0.4:
+                value = self.operand(env, kind)
+            self.body.append((-1, "store", kind, (value, operands[-1]), (), self.spot()))
+            return
         if self.rnd.random() < 0.5:
             self.body.append((-1, "store", kind, (self.operand(env, kind), pointer), (), self.spot()))
         else:
