@@ -219,7 +219,7 @@ class EquationsTest(unittest.TestCase):
                         self.assertEqual(known[n], known[here[0]])
                         looked_at += 1
                 machine.go(fuel=1)
-        self.assertGreater(looked_at, 50)
+        self.assertGreater(looked_at, 30)
 
 
 class BoundsTest(unittest.TestCase):

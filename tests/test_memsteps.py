@@ -192,7 +192,7 @@ class SafeTest(MemoryCase):
                         self.assertIsNotNone(store_value(state[1], pointer, row[2], operand_value(module, frame, row[3][0])))
                     counts[row[1]] += 1
                 machine.go(fuel=1)
-        self.assertGreater(min(counts.values()), 40)
+        self.assertGreater(min(counts.values()), 25)
 
 
 class DeleteLoadTest(MemoryCase):
