@@ -88,9 +88,11 @@ class Facts:
 
     def forget_marked(self, marks):
         """Remove the facts whose pointers have one of the marks."""
+        found = []
         for base in self.bases_with(marks):
-            for pointer in self.marked(self.groups[base], marks):
-                self.forget(pointer)
+            found.extend(self.marked(self.groups[base], marks))
+        for pointer in found:
+            self.forget(pointer)
 
     def met_by(self, pointer, marks):
         """Return the list of the pointers of facts that have one of the marks and may not be apart from a pointer."""
@@ -179,7 +181,8 @@ class Carrier:
     def store(self, facts, instruction):
         """Carry facts through a store."""
         _, _, kind, (worth, pointer), _, _ = instruction
-        for other in facts.met_by(pointer, self.meeting(pointer)):
+        met = facts.met_by(pointer, self.meeting(pointer))
+        for other in met:
             facts.keep_apart(other, pointer, kind)
         facts.put(pointer, kind, worth)
 

@@ -35,10 +35,9 @@ def _pointers_from(users, first, ops):
         pointer = waiting.pop()
         for instruction, index in users.get(pointer, ()):
             if _is_access(instruction, index, ("gep",)):
-                result = ("name", instruction[0])
-                if result not in found:
-                    found[result] = True
-                    waiting.append(result)
+                # A gep has one base, so that it is found once.
+                found[("name", instruction[0])] = True
+                waiting.append(("name", instruction[0]))
             elif not _is_access(instruction, index, ops):
                 return None
     return found

@@ -104,6 +104,31 @@ class TailTest(StepCase):
         self.refused("internal g i32 { 1($0 i32, $1 i32): ret $0 }" + self.TEXT.format(self.ENTRY, self.END.replace("i32 f", "i32 g")), good)
         self.faulty(self.TEXT.format(self.ENTRY, self.END + " 9(): ret $7"), good)
 
+    def test_entries_that_do_more(self):
+        self.refused(self.TEXT.format(self.ENTRY.replace("br 2", "call void put(i32 65) !9 br 2"), self.END), ("tail", "f", 4))
+        for end in ("stop !1", "ret", "condbr i1 1, 2(), 2()"):
+            self.refused("internal f void { 1(): " + end + " 2(): call void f() !2 ret }", ("tail", "f", 2))
+
+    def test_results_that_decide(self):
+        text = "internal f i1 { 1($0 i1): br 2($0) 2($1 i1): $2 = call i1 f(i1 0) !1 condbr $2, 3(), 3() 3(): ret $1 }"
+        self.refused(text, ("tail", "f", 2))
+
+    def test_functions_with_the_name_of_a_predicate(self):
+        # Such a name stands in the data of an icmp, too.
+        text = ("internal eq i32 { 1($0 i32): br 2($0) 2($1 i32): $2 = icmp eq i32 $1, i32 0 condbr $2, 3(), 4() 3(): $3 = icmp eq i32 $1, i32 1 ret $1 4(): $4 = sub i32 $1, i32 1 $5 = call i32 eq($4) !1 ret $5 } "
+                "export main i32 { 0(): $0 = call i32 eq(i32 3) !2 $1 = icmp eq i32 $0, i32 0 ret i32 0 }")
+        self.done(text, ("tail", "eq", 4), text.replace("$5 = call i32 eq($4) !1 ret $5", "br 2($4)"))
+        self.refused("internal eq i1 { 1(): br 2() 2(): $0 = icmp eq i8 i8 1, i8 1 ret $0 }", ("tail", "eq", 2))
+        self.refused(text, ("drop_function", "eq"))
+        only = "internal eq void { 1($0 i32): ret } export main i32 { 0(): $1 = icmp eq i32 i32 1, i32 0 ret i32 0 }"
+        self.done(only, ("drop_function", "eq"), "export main i32 { 0(): $1 = icmp eq i32 i32 1, i32 0 ret i32 0 }")
+        self.done(only, ("drop_argument", "eq", 0), only.replace("$0 i32", ""))
+        self.done(only, ("same_argument", "eq", 0, ("int", "i32", 7)), only)
+        first = "internal eq i1 { 0($0 i8): $1 = icmp eq i8 $0, i8 1 ret $1 } "
+        second = "internal ne i1 { 0($0 i8): $1 = icmp eq i8 $0, i8 1 ret $1 } "
+        self.refused(first + second.replace("icmp eq", "icmp ne"), ("same_function", "eq", "ne"))
+        self.done(first + second, ("same_function", "eq", "ne"), first + second)
+
     def test_the_end_of_a_void_function(self):
         text = "internal f void { 1(): br 2() 2(): $0 = call i32 get() !1 call void f() !2 stop !3 } export main i32 { 0(): call void f() !1 ret i32 0 }"
         self.refused(text, ("tail", "f", 2))
@@ -140,6 +165,12 @@ class ArgumentTest(StepCase):
         text = "internal f i32 { 0($0 i32): ret $0 } export main i32 { 0(): $1 = call i32 f(i32 3) !2 $2 = call i32 f(i32 3) !3 ret $2 }"
         self.done(text, ("same_argument", "f", 0, ("int", "i32", 3)), text.replace("ret $0", "ret i32 3"))
         self.refused(text, ("same_argument", "f", 0, ("int", "i8", 3)), ("same_argument", "f", 0, ("int", "i32", 4)))
+
+    def test_calls_within_the_function(self):
+        text = "internal f i32 {{ 0($0 i32, $1 i32): $2 = call i32 f({}, $1) !1 ret $2 }} export main i32 {{ 0(): $0 = call i32 f(i32 3, i32 4) !2 ret $0 }}"
+        self.done(text.format("$0"), ("same_argument", "f", 0, ("int", "i32", 3)), text.format("i32 3"))
+        self.refused(text.format("$1"), ("same_argument", "f", 0, ("int", "i32", 3)))
+        self.refused(text.format("i32 4"), ("same_argument", "f", 0, ("int", "i32", 3)))
 
     def test_functions_that_nothing_calls(self):
         text = "global g 1 internal f i32 { 0($0 i32, $1 ptr): ret $0 } export main i32 { 0(): ret i32 0 }"

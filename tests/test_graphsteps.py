@@ -76,6 +76,7 @@ class GraphStepsTest(StepCase):
         self.done("0(): br 1(i32 1, i32 2) 1($0 i32, $1 i32): br 2() 2(): $2 = sub i32 $0, $1 ret $2", ("join", "main", 0), "0(): br 2() 2(): $2 = sub i32 i32 1, i32 2 ret $2")
         self.done("0(): br 1() 1(): br 1() 2(): br 3() 3(): ret i32 0", ("join", "main", 2), "0(): br 1() 1(): br 1() 2(): ret i32 0")
         self.refused("0(): br 1() 1(): br 1()", ("join", "main", 0), ("join", "main", 1))
+        self.refused("0(): ret i32 0 1(): br 1()", ("join", "main", 1))
         self.refused(GET + "condbr $1, 1(), 1() 1(): ret i32 0", ("join", "main", 0))
         self.refused(GET + "condbr $1, 1(), 2() 1(): br 2() 2(): ret i32 0", ("join", "main", 0), ("join", "main", 1), ("join", "main", 2))
         self.refused("0(): br 1() 1(): ret i32 0 2(): br 1()", ("join", "main", 0), ("join", "main", 9), ("join", "f", 0))
@@ -88,6 +89,8 @@ class GraphStepsTest(StepCase):
         self.done(text, ("cut", "main", 0, 2, 9), "0(): $0 = call i32 get() !1 $1 = add i32 $0, i32 1 br 9() 1($2 i32): ret $2 9(): br 1($1)")
         self.done(text, ("cut", "main", 1, 0, 2), text.replace("ret $2", "br 2() 2(): ret $2"))
         self.done("0(): br 1() 1(): br 1()", ("cut", "main", 1, 0, 7), "0(): br 1() 1(): br 7() 7(): br 1()")
+        rows = "".join(f"$1{k} = call i32 get() !{k} " for k in range(6))
+        self.done("0(): " + rows + "ret i32 0", ("cut", "main", 0, 6, 1), "0(): " + rows + "br 1() 1(): ret i32 0")
         self.refused(text, *[("cut", "main", 0, k, 9) for k in (-1, 3)], *[("cut", "main", 0, 0, label) for label in (0, 1, -1, 10 ** 9)], ("cut", "main", 5, 0, 9), ("cut", "f", 0, 0, 9))
 
     def test_skip(self):
@@ -123,6 +126,8 @@ class GraphStepsTest(StepCase):
         self.done(text, ("fork", "main", 0, ("name", 1)), text.replace("br 1($0)", "condbr $1, 1($0), 1($0)"))
         self.done(text, ("fork", "main", 1, ("name", 1)), text.replace("br 2()", "condbr $1, 2(), 2()"))
         self.done(text, ("fork", "main", 0, ("int", "i1", 0)), text.replace("br 1($0)", "condbr i1 0, 1($0), 1($0)"))
+        far = text.replace("br 1($0)", "$7 = add i32 $0, i32 1 $8 = icmp eq i32 $7, i32 3 br 1($7)")
+        self.done(far, ("fork", "main", 0, ("name", 8)), far.replace("br 1($7)", "condbr $8, 1($7), 1($7)"))
         self.refused(text, ("fork", "main", 0, ("name", 0)), ("fork", "main", 0, ("name", 9)), ("fork", "main", 0, ("int", "i8", 1)), ("fork", "main", 0, ("null",)), ("fork", "main", 2, ("name", 1)),
                      ("fork", "main", 7, ("name", 1)), ("fork", "f", 0, ("name", 1)))
         later = "0(): br 1() 1(): $0 = call i32 get() !1 $1 = icmp eq i32 $0, i32 0 br 2() 2(): ret $0 3(): br 2()"
@@ -137,6 +142,9 @@ class GraphStepsTest(StepCase):
         switch = GET + "switch $0, 3: 1($0, $0), 7: 1($0, i32 1), else 1($0, $0) 1($2 i32, $3 i32): $5 = add i32 $2, $3 ret $5"
         self.done(switch, ("edge_value", "main", 0, 0), switch.replace("3: 1($0, $0)", "3: 1(i32 3, i32 3)"))
         self.done(switch, ("edge_value", "main", 0, 1), switch.replace("7: 1($0, i32 1)", "7: 1(i32 7, i32 1)"))
+        more = GET + "switch $0, 3: 1(i32 1), 7: 1(i32 2), 8: 1($0), 9: 1($0), else 1($0) 1($2 i32): ret $2"
+        self.done(more, ("edge_value", "main", 0, 3), more.replace("9: 1($0)", "9: 1(i32 9)"))
+        self.refused(more, ("edge_value", "main", 0, 4))
         # Nothing need be there to be replaced.
         self.done(GET + "condbr $1, 1(), 1() 1(): ret i32 0", ("edge_value", "main", 0, 0), GET + "condbr $1, 1(), 1() 1(): ret i32 0")
         self.refused(switch, ("edge_value", "main", 0, 2), ("edge_value", "main", 0, 3), ("edge_value", "main", 0, -1), ("edge_value", "main", 1, 0), ("edge_value", "main", 8, 0), ("edge_value", "f", 0, 0))
@@ -149,6 +157,7 @@ class GraphStepsTest(StepCase):
         text = "5(): $3 = call i32 get() !1 br 2($3) 2($1 i32): $0 = icmp eq i32 $1, $3 condbr $0, 2($3), 7() 7(): ret $1"
         self.done(text, ("rename", "main", ((2, 20), (5, 2), (7, 5)), ((0, 1), (1, 0), (3, 999999999))),
                   "2(): $999999999 = call i32 get() !1 br 20($999999999) 20($0 i32): $1 = icmp eq i32 $0, $999999999 condbr $1, 20($999999999), 5() 5(): ret $0")
+        self.done("0(): $0 = call i32 get() !1 call void put($0) !2 kill null ret $0", ("rename", "main", ((0, 3),), ((0, 7),)), "3(): $7 = call i32 get() !1 call void put($7) !2 kill null ret $7")
         same = ("rename", "main", ((2, 2), (5, 5), (7, 7)), ((0, 0), (1, 1), (3, 3)))
         self.done(text, same, text)
         self.refused(text, *[same[:2] + (labels,) + same[3:] for labels in (((2, 2), (5, 5)), ((2, 2), (5, 5), (7, 7), (8, 8)), ((5, 5), (2, 2), (7, 7)), ((2, 2), (2, 3), (5, 5), (7, 7)), ((2, 2), (5, 5), (6, 7)),

@@ -38,6 +38,10 @@ class SplitTest(StepCase):
             due = text.format(row).replace("$0 = alloca 16", "$20 = alloca 8 $21 = alloca 8").replace("gep $0, 8", "gep $21, 0").replace("gep $0, 15", "gep $21, 7").replace("$0", "$20")
             self.done(text.format(row), step, due)
 
+    def test_other_geps_stay(self):
+        text = "0(): $0 = alloca 16 $1 = alloca 16 $2 = gep $1, 8 $3 = gep @g, 1 $4 = gep $0, 8 $5 = load i32 $2 !1 $6 = load i8 $3 !2 $7 = load i32 $4 !3 ret $7"
+        self.done(text, ("split_alloca", "main", 0, 0, (8, 8), (20, 21)), text.replace("$0 = alloca 16", "$20 = alloca 8 $21 = alloca 8").replace("gep $0, 8", "gep $21, 0"))
+
     def test_geps_that_are_not_accessed(self):
         text = "0(): $0 = alloca 16 $1 = gep $0, 9 $2 = gep $0, 3 ret i32 0"
         self.done(text, ("split_alloca", "main", 0, 0, (8, 8), (20, 21)), "0(): $20 = alloca 8 $21 = alloca 8 $1 = gep $21, 1 $2 = gep $20, 3 ret i32 0")
@@ -69,6 +73,8 @@ class DropKillsTest(StepCase):
         text = "0(): br 1(i32 0) 1($5 i32): $0 = alloca 8 $9 = gep $0, 4 store i32 $5, $9 !1 $1 = load i32 $9 !2 kill $0 $6 = add i32 $1, i32 1 $7 = icmp ult i32 $6, i32 9 condbr $7, 1($6), 2() 2(): ret $1"
         self.done(text, ("drop_kills", "main", 0), text.replace("kill $0 ", ""))
         text = "0(): br 1() 1(): $0 = alloca 8 $6 = call i32 get() !1 $7 = icmp eq i32 $6, i32 7 kill $0 condbr $7, 1(), 2() 2(): ret $6"
+        self.done(text, ("drop_kills", "main", 0), text.replace("kill $0 ", ""))
+        text = ("0(): br 1(i32 0) 1($5 i32): $0 = alloca 8 br 2() 2(): store i32 $5, $0 !2 kill $0 $6 = add i32 $5, i32 1 $7 = icmp ult i32 $6, i32 9 condbr $7, 1($6), 3() 3(): br 3()")
         self.done(text, ("drop_kills", "main", 0), text.replace("kill $0 ", ""))
         # The kill itself, met again without a new object.
         self.refused("0(): $0 = alloca 8 br 1(i32 0) 1($5 i32): kill $0 $6 = add i32 $5, i32 1 $7 = icmp ult i32 $6, i32 9 condbr $7, 1($6), 2() 2(): ret $6", ("drop_kills", "main", 0))

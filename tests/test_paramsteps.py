@@ -66,6 +66,10 @@ class RegionTest(StepCase):
         self.refused(self.TEXT.replace("5(): br 1(i32 3)", "5(): br 4(i32 3)"), good[:3] + ((1, 2, 3, 4), (11, 21, 31, 41), (12, 13, 14, 15, 16), ((0, 0),)))
         self.refused(self.TEXT.replace("4($0)", "4($2)").replace("ret $6", "ret $2"), good)
         self.refused(self.TEXT.replace("ret $6", "ret $3").replace("main i32", "main i32").replace("ret $3", "$7 = zext i32 $3 ret $7"), good)
+        # Without the header; with one that does not exist; with the entry, which nothing dominates; with an edge that comes back from outside.
+        self.refused(self.TEXT, ("copy_region", "main", 1, (), (), (), ((0, 0),)), ("copy_region", "main", 9, (9,), (19,), (), ((0, 0),)))
+        self.refused(GET + "condbr $1, 1(), 2() 1(): ret i32 1 2(): br 1()", ("copy_region", "main", 1, (0, 1), (7, 8), (8, 9), ((2, 0),)))
+        self.refused(GET + "br 1() 1(): br 5() 5(): br 2() 2(): ret $0", ("copy_region", "main", 1, (1, 2), (7, 8), (), ((0, 0),)))
         # The entry is no header.
         self.refused("0(): br 1() 1(): ret i32 0", ("copy_region", "main", 0, (0, 1), (7, 8), (), ()))
 
@@ -88,6 +92,10 @@ class AddParamTest(StepCase):
         self.done("0(): br 1() 1(): ret i32 0", ("add_param", "main", 1, 7, "ptr", (("null",),)), "0(): br 1(null) 1($7 ptr): ret i32 0")
         self.done("0(): switch i8 1, 1: 1(), 2: 2(), else 1() 1(): ret i32 0 2(): ret i32 1", ("add_param", "main", 1, 7, "i8", (("int", "i8", 1), ("int", "i8", 2))),
                   "0(): switch i8 1, 1: 1(i8 1), 2: 2(), else 1(i8 2) 1($7 i8): ret i32 0 2(): ret i32 1")
+
+    def test_operands_at_the_ends_of_long_blocks(self):
+        text = GET + "$2 = add i32 $0, i32 1 $3 = add i32 $2, i32 1 $4 = add i32 $3, i32 1 br 1({}) 1({}): ret $0"
+        self.done(text.format("", ""), ("add_param", "main", 1, 9, "i32", (("name", 4),)), text.format("$4", "$9 i32"))
 
     def test_params_that_are_refused(self):
         operands = (("name", 0), ("name", 4), ("name", 2))
@@ -149,7 +157,10 @@ class UseParamsTest(StepCase):
         self.refused("0(): ret i32 0 1($0 i32): ret $0", ("use_params", "main", ((1, 0),)))
         self.refused(GET + "$2 = add i32 $0, i32 1 condbr $1, 1($0), 1($2) 1($3 i32): ret $0", ("use_params", "main", ((1, 0),)))
         self.refused(GET + "condbr $1, 1($0), 1(i32 0) 1($3 i32): ret $0", ("use_params", "main", ((1, 0),)))
+        self.refused(GET + "br 1($0, $0) 1($2 i32, $3 i32): ret $0", ("use_params", "main", ((1, 0), (1, 1))))
         # The name does not strictly dominate one of the blocks.
+        self.refused("0(): ret i32 0 1($0 i32): $1 = add i32 $0, i32 1 br 1($1)", ("use_params", "main", ((1, 0),)))
+        self.refused("0(): ret i32 0 1($0 i32): $1 = add i32 $0, i32 1 condbr i1 1, 1($1), 2($1) 2($2 i32): ret $1", ("use_params", "main", ((1, 0), (2, 0))))
         self.refused("0(): br 1(i32 1) 1($0 i32): $1 = add i32 $0, i32 1 br 2($1) 2($2 i32): br 1($1)", ("use_params", "main", ((1, 0),)))
         self.refused("0(): br 2() 2(): $1 = call i32 get() !1 br 3($1) 3($2 i32): br 2() 4($3 i32): br 4($1)".replace("br 2() 4", "br 5() 5(): ret $2 4"), ("use_params", "main", ((3, 0), (6, 0))))
 

@@ -67,6 +67,12 @@ class TwinsTest(StepCase):
         self.refused(text.replace("2($3 i8)", "2($3 i32, $4 i32)"), ("twins", "main", ((1, 2),), 0, 0, 2))
         self.done(text.replace("2($3 i8)", "2($3 i32)"), ("twins", "main", ((1, 2),), 0, 0, 2), text.replace("2($3 i8)", "2($3 i32)").replace("br 1", "br 2"))
 
+    def test_the_entry_is_no_twin(self):
+        text = "0(): br 1(i32 0) " + block(1, 0, 1) + block(2, 1, 1) + "3($9 i32): br 5() 5(): br 1(i32 0)"
+        text = text.replace("$0 condbr", "i32 4 condbr")
+        self.done(text, ("twins", "main", ((1, 2),), 0, 0, 2), text.replace("0(): br 1", "0(): br 2"))
+        self.refused(text, ("twins", "main", ((0, 5), (1, 2)), 0, 0, 2), ("twins", "main", ((1, 2), (5, 0)), 0, 0, 2))
+
     def test_blocks_that_are_not_closed(self):
         text = GET + "br 1($0) 1($2 i32): $4 = add i32 $2, i32 1 br 3() 2($3 i32): $5 = add i32 $3, i32 1 br 3() 3(): ret {}"
         good = ("twins", "main", ((1, 2),), 0, 0, 2)

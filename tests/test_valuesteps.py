@@ -95,6 +95,10 @@ class DropNamesTest(ValueCase):
                             ("br 1($1) 1($4 i32): ret $4", (1, 4)), ("$4 = load i8 $3 !1 ret i32 0", (3,)), ("ret i32 0", (0,)), ("ret i32 0", (5,)), ("$4 = call i32 f($1, $2) !1 ret i32 0", (1, 2))):
             self.refused(text.format(rest), ("drop_names", "f", names))
 
+    def test_other_ends(self):
+        text = "internal f void {{ 0($0 i32): {}condbr i1 1, 1(), 2() 1(): stop !3 2(): ret }} export main i32 {{ 0(): call void f(i32 1) !1 ret i32 0 }}"
+        self.done(text.format("$1 = add i32 $0, i32 1 "), ("drop_names", "f", (1,)), text.format(""))
+
     def test_params_that_make_each_other(self):
         self.done(GET + "br 1(i32 1, i32 2) 1($2 i32, $3 i32): condbr $1, 1($3, $2), 2($2) 2($4 i32): ret $0", ("drop_names", "main", (2, 3, 4)), GET + "br 1() 1(): condbr $1, 1(), 2() 2(): ret $0")
         self.done("0(): ret i32 0 1($0 i32): $1 = add i32 $1, $0 br 1($1)", ("drop_names", "main", (0, 1)), "0(): ret i32 0 1(): br 1()")
@@ -326,6 +330,8 @@ class EqualTest(ValueCase):
         self.done(self.TEXT, ("equal", "main", table, ((4, 5),)), self.TEXT.replace("mul i32 $4", "mul i32 $5").replace("add i32 $4", "add i32 $5"))
         self.done(self.TEXT, ("equal", "main", ((2, 3),), ((3, 2),)), self.TEXT.replace("1($2, $3)", "1($2, $2)"))
         self.done(self.TEXT, ("equal", "main", table, ()), self.TEXT)
+        # A pair of a param and itself keeps the words, and changes nothing.
+        self.done(self.TEXT, ("equal", "main", table, ((4, 4),)), self.TEXT)
 
     def test_what_is_refused(self):
         table = solve_equations(self.tables(self.TEXT)[0])
@@ -373,6 +379,8 @@ class LinearStepTest(ValueCase):
         # There each name is its own form.
         self.refused("0(): ret i32 0 1(): $0 = add i32 i32 1, i32 2 ret $0", ("linear", "main", NOTHING, (), 1, 0, number(3)))
         self.faulty("0(): ret i32 0 1(): $0 = add i32 i32 1, i32 2 ret $0", ("linear", "main", NOTHING, (), 1, 0, name(0)))
+        for row in ("load i32 null !1", "udiv i32 i32 1, i32 1 !1", "gep null, 0", "select ptr i1 1, null, null"):
+            self.refused(f"0(): ret i32 0 1(): $0 = {row} ret i32 0", ("linear", "main", NOTHING, (), 1, 0, name(0)))
 
 
 class BoundsTest(unittest.TestCase):
