@@ -16,9 +16,6 @@ _HARMLESS = ("get", "put", "exit", "malloc")
 # Stands beside the sites of a pointer that may lead to what ("outside",) is or covers.
 _EXPOSED = ("exposed",)
 
-# The spot of a pointer from which more geps lead on than are looked at.
-_DEEP = ((), 0)
-
 # No access has more bytes.
 _MOST = 8
 
@@ -99,11 +96,11 @@ class Facts:
         base, offset = self.carrier.spot_of(pointer)
         found = []
         for other in self.bases_with(marks):
-            if other != base or base == _DEEP[0]:
+            if other != base:
                 found.extend(self.marked(self.groups[other], marks))
-        if base != _DEEP[0]:
-            for k in range(offset - _MOST, offset + _MOST + 1):
-                found.extend(self.marked(self.near.get((base, k), ()), marks))
+        # Of pointers that lead to the same operand, those are apart that lie farther away.
+        for k in range(offset - _MOST, offset + _MOST + 1):
+            found.extend(self.marked(self.near.get((base, k), ()), marks))
         return found
 
     def keep_apart(self, pointer, other, kind):
@@ -163,8 +160,7 @@ class Carrier:
     def spot_of(self, pointer):
         """Return the spot of a pointer."""
         if pointer not in self.spots:
-            spot = self.knowledge.bases(pointer)[-1]
-            self.spots[pointer] = _DEEP if len(self.knowledge.bases(spot[0])) > 1 else spot
+            self.spots[pointer] = self.knowledge.bases(pointer)[-1]
         return self.spots[pointer]
 
     def meeting(self, pointer):
@@ -193,7 +189,7 @@ class Carrier:
             facts.forget_marked(self.meeting(instruction[3][0]))
         elif callee not in _HARMLESS:
             told = callee_effects(self.module, self.effects, instruction)
-            if told is None or "frees" in told or "writes" in told:
+            if "frees" in told or "writes" in told:
                 facts.forget_marked({_EXPOSED: True})
 
     def carry(self, facts, instruction):

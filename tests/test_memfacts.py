@@ -277,6 +277,21 @@ class MemoryTest(unittest.TestCase):
         self.look("0(): store i32 i32 5, @g !1 condbr i1 1, 1(), 2() 1(): br 3() 2(): store i32 i32 6, @g !2 br 3() 3(): ret i32 0",
                   (1, ((("global", "g"), "i32", number(5)),)), (3, ((("global", "g"), "i32", number(5)),)))
 
+    def test_names_that_are_defined_on_live_ways_alone(self):
+        # Along the only edge that is taken the name is there, but its block does not dominate the target.
+        module, function, values, effects = self.look("0(): condbr i1 1, 1(), 2() 1(): $0 = load i32 @g !1 br 3() 2(): br 3() 3(): ret i32 0")
+        self.assertIs(holds_memory(module, function, values, effects, ((3, ((("global", "g"), "i32", name(0)),)),)), False)
+
+    def test_labels_that_no_dead_edge_tells_of(self):
+        # The table says that one edge is dead; what follows behind it is not live, though its edges are not told to be dead.
+        module, function, solved, effects = self.look("0(): store i32 i32 5, @g !1 condbr i1 1, 1(), 2() 1(): br 3() 2(): store i32 i32 6, @g !2 br 3() 3(): ret i32 0",
+                                                      (1, ((("global", "g"), "i32", number(5)),)), (3, ((("global", "g"), "i32", number(5)),)))
+        values = (((0, 1),), (), ())
+        fact = (("global", "g"), "i32", number(5))
+        self.assertEqual(solve_memory(module, function, values, effects), ((1, (fact,)), (3, (fact,))))
+        self.assertIs(holds_memory(module, function, values, effects, ((1, (fact,)), (3, (fact,)))), True)
+        self.assertIs(holds_memory(module, function, values, effects, ((2, (fact,)),)), False)
+
     def test_the_entry_has_no_facts(self):
         module, function, values, effects = self.look("0(): $0 = load i8 @g !1 ret i32 0")
         fact = (("global", "g"), "i8", number(1, "i8"))

@@ -117,6 +117,7 @@ class SafeTest(MemoryCase):
             self.look(text, "store", "i8", name(0), due)
             # A load needs that it has not escaped.
             self.look(text, "load", "i8", name(0), False)
+            self.look(text.replace("$0", "$5"), "load", "i8", name(5), False)
             self.both("$0 = alloca 8 " + rows, "i8", name(0), True)
 
     def test_kinds_of_what_is_stored(self):
@@ -212,6 +213,11 @@ class DeleteLoadTest(MemoryCase):
         text = "0(): $0 = alloca 8 $1 = load ptr $0 !1 $2 = load ptr $0 !2 store ptr $2, @g !3 ret i32 0"
         self.refused(text, ("delete_load", "main", self.facts(text), ((0, 2),)))
 
+    def test_one_of_several_is_used(self):
+        text = self.TEXT.replace("ret $2", "ret $3")
+        self.done(text, ("delete_load", "main", self.facts(text), ((0, 1), (0, 4))), text.replace("$1 = load i8 $0 !1 ", "").replace("$4 = load i64 $0 !4 ", ""))
+        self.refused(text, ("delete_load", "main", self.facts(text), ((0, 1), (0, 3))))
+
     def test_weaker_tables(self):
         text = self.TEXT.replace("alloca 8 ", "alloca 8 kill null br 1() 1(): ")
         self.refused(text, ("delete_load", "main", self.weaker(text), ((1, 0),)))
@@ -236,6 +242,7 @@ class InsertLoadTest(MemoryCase):
         self.refused(self.TEXT, self.step(0, 0), self.step(0, 2), self.step(0, -1), self.step(1, 3), self.step(1, 0, "i32", 1), self.step(1, 1, "i64", 1), self.step(1, 2, "i8", 2), self.step(7, 0), self.step(0, 1, of="f"),
                      *[self.step(0, 1, new=new) for new in (0, 1, 2)], self.step(0, 1, pointer=77))
         self.refused(self.TEXT, ("insert_load", "main", self.facts(self.TEXT), 0, 1, (9, "add", "i8", (number(1, "i8"), number(1, "i8")), (), -1)),
+                     ("insert_load", "main", self.facts(self.TEXT), 0, 1, (9, "gep", "ptr", (name(0),), (0,), -1)),
                      ("insert_load", "main", self.facts(self.TEXT), 0, 1, (9, "load", "i8", (("global", "g"),), (), 1)), ("insert_load", "main", self.facts(self.TEXT), 0, 1, (9, "load", "i8", (("global", "none"),), (), 1)),
                      *[self.step(0, 1, facts=facts) for facts in self.wrong(self.TEXT, (G, "i8", number(1, "i8")))], self.step(1, 0, facts=self.weaker(self.TEXT)))
 
@@ -379,6 +386,8 @@ class DeadStoreTest(MemoryCase):
         self.refused(text, *[self.step(text, k, j) for k, j in ((2, 3), (2, 4), (5, 2), (2, 2), (2, 6), (1, 5), (2, 7), (2, -3), (-6, 5), (3, 5))], self.step(text, 2, 5, label=7), self.step(text, 2, 5, of="f"),
                      *[self.step(text, 2, 5, facts=facts) for facts in self.wrong(text, (G, "i32", number(5)))])
         self.done(text, self.step(text, 2, 5, facts=self.weaker(text)), text.replace("store i32 i32 1, $0 !1 ", ""))
+        text = "0(): $0 = alloca 8 store i32 i32 1, $0 !1 $1 = load i32 @g !2 $2 = load i32 $0 !3 store i32 i32 2, $0 !4 ret $2"
+        self.refused(text, *[self.step(text, k, j) for k, j in ((1, 2), (1, 3), (2, 4), (3, 4))])
 
     def test_pointers_with_several_sites(self):
         head = "$0 = alloca 8 $1 = alloca 8 $2 = call i32 get() !9 $3 = icmp eq i32 $2, i32 0 $4 = select ptr $3, $0, {} $5 = load i32 $4 !8"
@@ -423,6 +432,10 @@ class UnreadStoreTest(MemoryCase):
         self.refused(text, self.step(text, (0, 9)))
         text = head + "$9 = load i32 $4 !3 store i32 i32 1, $4 !1 ret i32 0"
         self.refused(text, self.step(text, (0, 9)))
+        # A pointer that may be the one or the other alloca, where one of them is loaded.
+        text = head + "store i32 i32 5, $4 !3 store i32 i32 1, $4 !1 $9 = load i32 {} !2 ret i32 0"
+        self.refused(text.format("$0"), self.step(text.format("$0"), (0, 9)))
+        self.done(text.format("@g"), self.step(text.format("@g"), (0, 9)), text.format("@g").replace("store i32 i32 1, $4 !1 ", ""))
 
     def test_what_may_be_looked_at_from_outside(self):
         for row in ("store ptr $0, @h !5", "$9 = call i32 take($0) !5"):
