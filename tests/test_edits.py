@@ -173,6 +173,9 @@ class ScopeTest(unittest.TestCase):
         self.assertIs(scope.available(("name", 5), 1, 1), False)
         self.assertIs(scope.available(("name", 5), 1, 2), True)
         self.assertIs(scope.available(("name", 8), 3, 0), False)
+        for label in (0, 3, 4):
+            self.assertIs(scope.available(("name", 77), label, 0), False)
+            self.assertIs(scope.outer(("name", 77), label), False)
         for name in range(10):
             self.assertIs(scope.available(("name", name), 4, 0), True)
             self.assertIs(scope.available(("name", name), 5, 0), True)

@@ -217,6 +217,9 @@ class LinearTest(unittest.TestCase):
     def test_edges_that_are_dead_do_not_count(self):
         self.look("0(): condbr i1 1, 1(i8 0, i8 5), 1(i8 1, i8 9) 1($0 i8, $1 i8): $2 = add i8 $0, i8 1 $3 = add i8 $1, i8 2 br 1($2, $3)", (1, 0, 2, 5))
         self.look("0(): br 1(i8 0, i8 5) 1($0 i8, $1 i8): $2 = add i8 $0, i8 1 $3 = add i8 $1, i8 2 br 1($2, $3) 2(): br 1(i8 1, i8 1)", (1, 0, 2, 5))
+        function = self.function("0(): br 1(i8 0, i8 5) 1($0 i8, $1 i8): $2 = add i8 $0, i8 1 $3 = add i8 $1, i8 2 br 1($2, $3) 2(): br 1(i8 1, i8 1)")[1]
+        self.assertEqual(solve_linear(function, ((), (), ())), ((1, 0, 2, 5),))
+        self.assertIs(holds_linear(function, ((), (), ()), ((1, 0, 2, 5),)), True)
 
     def test_the_step_edge_is_the_first_one_ascending(self):
         # Along (5, 0) the steps are 1 and 2; along (3, 0) they are 3 and 6.
@@ -255,6 +258,8 @@ class LinearTest(unittest.TestCase):
                       ((3, 0, 1, 0),), ((5, 0, 1, 0),), ((9, 0, 1, 0),), ((7, 0, 1, 0),), ((1, 7, 1, 0),), ((4, 0, 1, 0), (1, 0, 1, 0)), ((1, 0, 1, 0), (1, 0, 1, 0)),
                       ((1, 0, 1, 0), (4, 1, 1, 0)), ((0, 1, 1, 0), (1, 0, 1, 0)), ((1, 0, None, 0),), ((-1, 0, 1, 0),)):
             self.assertIs(holds_linear(function, values, table), False, table)
+        pointers = self.function("0(): br 1(null, null) 1($0 ptr, $1 ptr): ret i32 0")[1]
+        self.assertIs(holds_linear(pointers, ((), (), ()), ((1, 0, 1, 0),)), False)
         entry = parse_module("internal f i32 { 0($0 i8, $1 i8): ret i32 0 } export main i32 { 0(): ret i32 0 }")[1][0]
         self.assertIs(holds_linear(entry, ((), (), ()), ((1, 0, 1, 0),)), False)
 

@@ -191,6 +191,25 @@ class SolveTest(unittest.TestCase):
         self.look("export main i32 { 0(): $1 = call i32 get() !1 $2 = trunc i1 $1 br 1(i8 3) 1($0 i8): condbr $2, 1($0), 2() 2(): ret i32 0 }",
                   ((), (), ((0, single("i8", 3)),)))
 
+    def test_what_an_edge_tells_by_the_other_operand(self):
+        # What 8 is less than grows in the loop, while the result of the comparison stays as it is.
+        self.look("export main i32 { 0(): $9 = call i32 get() !1 $8 = trunc i8 $9 br 1(i8 5) 1($0 i8): $1 = icmp ult i8 $8, $0 condbr $1, 2($8), 3() 2($2 i8): $3 = add i8 $0, i8 1 br 1($3) 3(): ret i32 0 }",
+                  ((), (), ()))
+
+    def test_what_traps_only_at_first(self):
+        # The division is looked at with 0 before the loop brings other divisors.
+        self.look("export main i32 { 0(): $9 = call i32 get() !1 $8 = icmp eq i32 $9, i32 0 br 1(i8 0) 1($0 i8): condbr $8, 2(), 3() 2(): $1 = add i8 $0, i8 1 br 1($1) "
+                  "3(): $2 = udiv i8 i8 9, $0 !2 $3 = add i8 $2, i8 1 $4 = add i8 $3, i8 1 $5 = add i8 $4, i8 1 br 4() 4(): ret i32 0 }",
+                  ((), (), ((2, (0, 9, 240, 0)), (3, (1, 10, 240, 0)), (4, (2, 11, 240, 0)), (5, (3, 12, 240, 0)))))
+
+    def test_thresholds(self):
+        # A single value stays, though it is no threshold; the least and the greatest value always are.
+        self.look("export main i32 { 0(): $0 = add i8 i8 30, i8 40 br 1($0) 1($1 i8): ret i32 0 }", ((), (), ((0, single("i8", 70)), (1, single("i8", 70)))))
+        self.look("export main i32 { 0(): $0 = call i32 get() !1 $1 = trunc i8 $0 $2 = and i8 $1, i8 24 br 1($2) 1($3 i8): $4 = or i8 $1, i8 224 br 2($4) 2($5 i8): ret i32 0 }",
+                  ((), (), ((2, (0, 24, 231, 0)), (3, (0, 24, 231, 0)), (4, (224, 255, 0, 224)), (5, (224, 255, 0, 224)))))
+        self.look("export main i32 { 0(): $0 = call i32 get() !1 $1 = icmp eq i32 $0, i32 0 condbr $1, 1(i8 3), 1(i8 60) 1($2 i8): $3 = mul i8 $2, i8 2 br 2($3) 2($4 i8): ret i32 0 }",
+                  ((), (), ((2, (3, 60, 192, 0)), (3, (6, 120, 128, 0)), (4, (4, 127, 128, 0)))))
+
     def test_what_always_traps(self):
         self.look("export main i32 { 0(): $0 = call i32 get() !1 $1 = udiv i32 $0, i32 0 !2 br 1() 1(): ret i32 0 }", (((0, 0),), (), ()))
         self.look("export main i32 { 0(): br 1(i32 0) 1($0 i32): $1 = udiv i32 i32 5, $0 !2 br 2() 2(): ret i32 0 }",
