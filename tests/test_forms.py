@@ -95,7 +95,7 @@ class RecordTest(unittest.TestCase):
         good += [(10 ** 9 - 1, "load", kind, (a,), (), 10 ** 9 - 1) for kind in ("i1", "i8", "i16", "i32", "i64", "ptr")]
         for value in good:
             self.assertIs(is_instruction(value), True, value)
-        wrong = [(0, "icmp", "i8", (a, a), data, -1) for data in ((), ("eq", "eq"), ("lt",), (1,), ("",), (("eq",),), (None,))]
+        wrong = [(0, "icmp", "i8", (a, a), data, -1) for data in (["eq"], "eq", (), ("eq", "eq"), ("lt",), (1,), ("",), (("eq",),), (None,))]
         wrong += [(0, "icmp", "void", (a, a), ("eq",), -1), (0, "icmp", "i8", (a,), ("eq",), -1), (0, "select", "i8", (a, a), (), -1), (0, "select", "void", (a, a, a), (), -1),
                   (0, "select", "i8", (a, a, a), (0,), -1), (0, "trunc", "ptr", (a,), (), -1), (0, "zext", "i8", (a, a), (), -1), (0, "zext", "i8", (), (), -1),
                   (0, "gep", "ptr", (), (), -1), (0, "gep", "ptr", (a,) * 6, (0,) * 6, -1), (0, "gep", "ptr", (a,), (), -1), (0, "gep", "ptr", (a,), (0, 1), -1), (0, "gep", "ptr", (a, a), (0,), -1),

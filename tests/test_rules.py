@@ -307,6 +307,9 @@ def misses(K):
                           (54, (f"icmp:eq:{K} [zext:i1 x] 1", f"icmp:uge:{K} [zext:i1 x] 2", f"icmp:sgt:{K} [zext:i1 x] 2", f"icmp:eq:{K} [sext:i1 x] 2", f"icmp:eq:{K} 2 [zext:i1 x]", f"icmp:eq:{K} [zext:i1 x] y"))):
         for text in texts:
             yield number, text
+    for number in (58, 59, 60):
+        yield number, "select b x y"
+        yield number, "select [and a b] x y"
     for number, texts in ((55, ("select b x y", "select b 1 0")), (56, ("select b 0 1", "select b 1 1", "select b 1 0", "select b x 0")), (57, ("select b 1 0", "select b 0 0", "select b 0 1", "select b 0 x")),
                           (58, ("select [xor b 0] x y", "select [xor 1 b] x y", "select [or b 1] x y", "select [xor b a] x y")),
                           (59, (f"select [icmp:ult:{K} x y] x y", f"select [icmp:eq:{K} x y] y x", f"select [icmp:eq:{K} x z] x y", f"select [icmp:eq:{K} y x] x y", f"select [icmp:ule:{K} x y] x y")),
@@ -404,14 +407,15 @@ class RuleTest(Looker):
 
     def test_bits(self):
         # Where the width is 1, some conditions fail.
-        for number, before in ((10, "mul x 1"), (10, "sdiv x 1"), (11, "mul x 1"), (12, "udiv x 1"), (13, "urem x 1"), (18, "ashr x 1"), (8, "sub x 0")):
+        for number, before in ((10, "mul x 1"), (10, "sdiv x 1"), (11, "mul x 1"), (12, "udiv x 1"), (13, "urem x 1"), (18, "ashr x 1"), (8, "sub x 0"),
+                               (56, "select b x 0"), (56, "select b 1 x"), (56, "select b 0 1"), (57, "select b 0 x"), (57, "select b x 1"), (57, "select b 1 0"), (66, "xor x 1"), (66, "xor [and x y] 1")):
             self.miss("i1", number, before)
         for number, before, after in ((2, "mul x 1", "x"), (4, "srem x 1", "0"), (17, "shl x 1", "0"), (27, "sub 1 x", "xor x 1"), (68, "add x 1", "xor x 1"), (9, "add x x", "shl x 1"), (8, "sub x 1", "add x 1")):
             self.match("i1", number, before, after)
 
     def test_casts_that_do_not_match(self):
         for K, number, before in (("i8", 61, "trunc:i32 [zext:i16 x]"), ("i64", 61, "zext:i32 [sext:i8 x]"), ("i64", 61, "sext:i32 [zext:i8 x]"), ("i64", 61, "zext:i8 x"), ("i32", 61, "zext:i8 [trunc:i64 x]"),
-                                  ("i64", 62, "zext:i32 [sext:i8 x]"), ("i64", 62, "sext:i32 [sext:i8 x]"), ("i64", 62, "sext:i8 x"), ("i8", 63, "trunc:i32 [trunc:i64 x]"), ("i8", 63, "trunc:i32 x"),
+                                  ("i64", 62, "zext:i32 [sext:i8 x]"), ("i64", 62, "sext:i32 [sext:i8 x]"), ("i64", 62, "sext:i8 x"), ("i64", 62, "zext:i32 [zext:i8 x]"), ("i8", 63, "trunc:i32 [trunc:i64 x]"), ("i8", 63, "trunc:i32 x"),
                                   ("i8", 63, "trunc:i32 [add x y]"), ("i64", 63, "zext:i32 [zext:i8 x]")):
             self.miss(K, number, before)
 
@@ -546,6 +550,8 @@ class RangedTest(Looker):
             self.ranged(K, 112, f"zext:{old} x", None, {"x": (0, 1)})
         self.ranged("i64", 112, "zext:i8 [trunc:i32 x]", None, {"x": (0, 7)})
         self.ranged("i32", 112, "sext:i8 [trunc:i32 x]", None, {"x": (0, 7)})
+        self.ranged("i32", 112, "zext:i1 [icmp:eq:i32 x y]", None, {"x": (0, 1)})
+        self.ranged("i32", 112, "zext:i8 [add x y]", None, {"x": (0, 1)})
 
     def test_bits(self):
         for number, before, after, facts in ((105, "ashr x y", "lshr x y", {"x": (0, 0)}), (105, "ashr x y", None, {}), (106, "sdiv x y", None, {"x": (0, 0)}), (108, "add x y", "or x y", {"x": (0, 0)}), (108, "xor x y", None, {}),
