@@ -152,7 +152,7 @@ class CombineTest(StepCase):
     def test_names_that_are_known_less_at_first(self):
         # Block 1 stands first, but what block 2 makes is rewritten only behind it; then 2 is a constant, and the comparison is decided.
         text = ("0(): $0 = call i32 get() !1 br 2() 1(): $2 = xor i32 $0, $3 $4 = add i32 $2, i32 1 $6 = icmp ult i32 $4, i32 5 $7 = zext i32 $6 ret $7 2(): $3 = sub i32 i32 4294967295, $0 br 1()")
-        self.look(text, [27, 29, 109], "0(): $0 = call i32 get() !1 br 2() 1(): $4 = add i32 i32 4294967295, i32 1 $7 = zext i32 i1 1 ret $7 2(): $3 = xor i32 $0, i32 4294967295 br 1()")
+        self.look(text, [27, 21, 109], "0(): $0 = call i32 get() !1 br 2() 1(): $4 = add i32 i32 4294967295, i32 1 $7 = zext i32 i1 1 ret $7 2(): $3 = xor i32 $0, i32 4294967295 br 1()")
         # Here an instruction is made of which bits are known.
         text = ("0(): $0 = call i32 get() !1 $1 = call i32 get() !2 br 2() 1(): $2 = and i32 $0, $8 $3 = xor i32 $0, $9 $4 = add i32 $2, $3 $5 = xor i32 $4, i32 1 $6 = icmp ult i32 $5, i32 100 $7 = zext i32 $6 ret $7 "
                 "2(): $9 = or i32 $1, i32 128 $8 = mul i32 $9, i32 1 br 1()")
