@@ -160,8 +160,9 @@ def _lets_escape(knowledge, block):
 
 def _takes_sites(knowledge, name, sites):
     """Tell whether each of the sites is in the fact of a pointer name, or covered there."""
-    fact = knowledge.sites_of(("name", name))
-    return all([any([knowledge.covers(outer, site) for outer in fact]) for site in sites])
+    fact = {site: True for site in knowledge.sites_of(("name", name))}
+    is_wide = OUTSIDE in fact
+    return all([site in fact or is_wide and knowledge.covers(OUTSIDE, site) for site in sites])
 
 
 def _takes_range(knowledge, name, bounds):

@@ -3,9 +3,10 @@
 from heapq import heappop, heappush
 
 from burnish.graph import graph_of, reverse_postorder
-from burnish.holding import edges_taken, escaping_operands, has_transfer, range_along, result_range, result_sites
+from burnish.holding import edges_taken, has_transfer, range_along, result_range
 from burnish.lattice import full, half_of, normal, top_of, union
-from burnish.records import block_definitions, edges, end_operands, result_kind
+from burnish.records import edges, end_operands, result_kind
+from burnish.sites import Sites
 from burnish.values import OUTSIDE, Knowledge
 
 _INTEGERS = ("i1", "i8", "i16", "i32", "i64")
@@ -72,8 +73,8 @@ def _compared_names(knowledge, end):
 class Solver:
     """The search for the least table: every edge is dead and nothing known until shown otherwise.
 
-    Each instruction and each end of a reachable block has a number, in an
-    order in which a definition comes ahead of its uses.
+    Each instruction with an integer result and each end of a reachable block
+    has a number, in an order in which a definition comes ahead of its uses.
     """
 
     def __init__(self, function):
@@ -83,10 +84,12 @@ class Solver:
         self.blocks = {block[0]: block for block in function[3]}
         self.rows = []
         self.starts = {}
+        self.ends = {}
         self.users = {}
         for label in reverse_postorder(graph_of(function)):
             self.starts[label] = len(self.rows)
             self.number_block(self.blocks[label])
+        self.sites = Sites()
         self.unions = {}
         self.alive = {}
         self.trapping = {}
@@ -97,10 +100,12 @@ class Solver:
         """Number the instructions and the end of a block, and note what names they use."""
         label, _, body, end = block
         for instruction in body:
-            self.note_users([operand[1] for operand in instruction[3] if operand[0] == "name"])
-            self.rows.append((label, instruction))
+            if result_kind(instruction) in _INTEGERS:
+                self.note_users([operand[1] for operand in instruction[3] if operand[0] == "name"])
+                self.rows.append((label, instruction))
         names = [operand[1] for operand in end_operands(end) if operand[0] == "name"]
         self.note_users(names + _compared_names(self.knowledge, end))
+        self.ends[label] = len(self.rows)
         self.rows.append((label, None))
 
     def note_users(self, names):
@@ -127,11 +132,8 @@ class Solver:
         if label in self.trapping:
             return
         self.trapping[label] = {}
-        block = self.blocks[label]
-        for name, kind in block_definitions(block):
-            if kind == "ptr":
-                self.knowledge.facts[name] = ()
-        for number in range(self.starts[label], self.starts[label] + len(block[2]) + 1):
+        self.sites.enter(self.blocks[label])
+        for number in range(self.starts[label], self.ends[label] + 1):
             self.push(number)
 
     def solve(self):
@@ -139,7 +141,10 @@ class Solver:
         entry = self.function[3][0]
         self.enter(entry[0])
         for name, kind in entry[1]:
-            self.knowledge.facts[name] = (OUTSIDE,) if kind == "ptr" else full(kind)
+            if kind == "ptr":
+                self.sites.put(name, OUTSIDE)
+            else:
+                self.knowledge.facts[name] = full(kind)
         while self.waiting:
             number = heappop(self.waiting)
             self.is_waiting[number] = False
@@ -155,35 +160,12 @@ class Solver:
             self.knowledge.facts[name] = fact
             self.push_users(name)
 
-    def add_sites(self, name, sites):
-        """Add sites to the fact of a pointer."""
-        fact = self.knowledge.facts[name]
-        if not all([site in fact for site in sites]):
-            self.set_fact(name, tuple(sorted(set(list(fact) + list(sites)))))
-
-    def let_escape(self, operands):
-        """Add the own names among the sites of the operands to escaped."""
-        for operand in operands:
-            for site in self.knowledge.sites_of(operand):
-                if site[0] == "at":
-                    self.knowledge.escaped[site[1]] = True
-
     def is_known(self, operand):
         """Tell whether an operand has a fact, where it needs one."""
-        return operand[0] != "name" or operand[1] in self.knowledge.facts
+        return operand[0] != "name" or operand[1] in self.knowledge.facts or self.knowledge.kinds[operand[1]] == "ptr"
 
     def look_at(self, number, label, instruction):
-        """Apply the rules to an instruction of a live block."""
-        kind = result_kind(instruction)
-        if instruction[1] in ("store", "call"):
-            self.let_escape(escaping_operands((label, (), (instruction,), ("stop", 0))))
-        if kind == "ptr":
-            self.add_sites(instruction[0], result_sites(self.knowledge, instruction))
-        elif kind != "void":
-            self.look_at_range(number, label, instruction)
-
-    def look_at_range(self, number, label, instruction):
-        """Apply the rules to an instruction with an integer result."""
+        """Apply the rules to an instruction of a live block with an integer result."""
         bounds = None
         if all([self.is_known(operand) for operand in instruction[3]]):
             bounds = result_range(self.knowledge, instruction)
@@ -193,23 +175,29 @@ class Solver:
             self.trapping[label][number] = True
         elif number in self.trapping[label]:
             del self.trapping[label][number]
-            self.push(self.starts[label] + len(self.blocks[label][2]))
+            self.push(self.ends[label])
 
     def look_at_end(self, block):
         """Apply the rules to the end of a live block."""
-        self.let_escape(escaping_operands((block[0], (), (), block[3])))
         if self.trapping[block[0]]:
             return
         for slot, edge, ranges in edges_taken(self.knowledge, block[3]):
-            self.alive[(block[0], slot)] = True
-            self.enter(edge[0])
+            if (block[0], slot) not in self.alive:
+                self.alive[(block[0], slot)] = True
+                self.open_edge(edge)
             self.pass_on(edge, ranges)
 
-    def pass_on(self, edge, ranges):
-        """Add the facts of the arguments of an edge to those of the params."""
+    def open_edge(self, edge):
+        """Let a label be entered along an edge, and its pointers have the sites of the arguments."""
+        self.enter(edge[0])
         for (name, kind), operand in zip(self.blocks[edge[0]][1], edge[1]):
             if kind == "ptr":
-                self.add_sites(name, self.knowledge.sites_of(operand))
+                self.sites.pass_on(operand, name)
+
+    def pass_on(self, edge, ranges):
+        """Add the ranges of the arguments of an edge to those of the params."""
+        for (name, kind), operand in zip(self.blocks[edge[0]][1], edge[1]):
+            if kind == "ptr":
                 continue
             bounds = range_along(self.knowledge, ranges, operand)
             if name in self.unions:
@@ -220,6 +208,17 @@ class Solver:
                     bounds = _widened(kind, self.thresholds[kind], bounds)
                 self.set_fact(name, bounds)
 
+    def listed_facts(self):
+        """Return the list of the facts that say something."""
+        found = []
+        for name, bounds in self.knowledge.facts.items():
+            if bounds != full(self.knowledge.kinds[name]):
+                found.append((name, bounds))
+        for name, sites in self.sites.found.items():
+            if list(sites) != [OUTSIDE]:
+                found.append((name, tuple(sorted(sites))))
+        return sorted(found)
+
     def table(self):
         """Return the table."""
         dead = []
@@ -227,13 +226,7 @@ class Solver:
             for slot, _ in enumerate(edges(block[3])):
                 if (block[0], slot) not in self.alive:
                     dead.append((block[0], slot))
-        facts = []
-        for name in sorted(self.knowledge.facts):
-            fact = self.knowledge.facts[name]
-            kind = self.knowledge.kinds[name]
-            if fact != ((OUTSIDE,) if kind == "ptr" else full(kind)):
-                facts.append((name, fact))
-        return (tuple(sorted(dead)), tuple(sorted(self.knowledge.escaped)), tuple(facts))
+        return (tuple(sorted(dead)), tuple(sorted(self.sites.escaped)), tuple(self.listed_facts()))
 
 
 def solve_values(module, function):

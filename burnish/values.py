@@ -70,9 +70,15 @@ class Knowledge:
             return False
         return site[0] == "global" or site[1] in self.escaped
 
-    def may_meet(self, first, second):
-        """Tell whether objects of two sites may be the same."""
-        return self.covers(first, second) or self.covers(second, first)
+    def may_share(self, p, q):
+        """Tell whether two pointers may lead to the same object, as their sites say."""
+        first = {site: True for site in self.sites_of(p)}
+        second = {site: True for site in self.sites_of(q)}
+        if any([site in first for site in second]):
+            return True
+        if OUTSIDE in first and any([self.covers(OUTSIDE, site) for site in second]):
+            return True
+        return OUTSIDE in second and any([self.covers(OUTSIDE, site) for site in first])
 
     def bases(self, operand):
         """Return pairs (operand, sum of offsets) of what geps without indices lead to."""
@@ -89,8 +95,7 @@ class Knowledge:
 
     def apart(self, p, n, q, m):
         """Tell whether n bytes at p and m bytes at q cannot overlap."""
-        others = self.sites_of(q)
-        if not any([self.may_meet(site, other) for site in self.sites_of(p) for other in others]):
+        if not self.may_share(p, q):
             return True
         second = self.bases(q)
         for base, a in self.bases(p):

@@ -299,6 +299,23 @@ class BoundsTest(unittest.TestCase):
         table = shallow(lambda: solve_values(((), (function,)), function))
         self.assertEqual(table[2][-1], (19999, (("at", 9999),)))
 
+    def test_many_pointers_around_loops(self):
+        blocks = [(0, (), ((0, "alloca", "ptr", (), (8,), -1),), ("br", (1, (("name", 0),))))]
+        last = 999
+        for label in range(1, last + 1):
+            param = 4 * label
+            rows = ((param + 1, "alloca", "ptr", (), (8,), -1), (param + 2, "load", "i1", (("name", param + 1),), (), -1))
+            operands = tuple(("name", param + k) for k in (2, 0, 1))
+            rows += ((param + 3, "select", "ptr", operands, (), -1),)
+            ahead, back = [(to, (("name", param + 3),)) for to in (min(label + 1, last), max(label - 2, 1))]
+            blocks.append((label, ((param, "ptr"),), rows, ("condbr", ("name", param + 2), ahead, back)))
+        function = ("main", "i32", False, tuple(blocks))
+        table = shallow(lambda: solve_values(((), (function,)), function))
+        facts = dict(table[2])
+        every = (("at", 0),) + tuple(("at", 4 * label + 1) for label in range(1, last + 1))
+        self.assertEqual([facts[4 * label] for label in (1, 500, last)], [every, every, every])
+        self.assertIs(shallow(lambda: holds_values(((), (function,)), function, table)), True)
+
 
 if __name__ == "__main__":
     unittest.main()
