@@ -148,7 +148,7 @@ class Carrier:
             found = {}
             for site in self.knowledge.sites_of(pointer):
                 found[site] = True
-                if self.knowledge.covers(OUTSIDE, site):
+                if self.knowledge.is_exposed(site):
                     found[_EXPOSED] = True
             self.marks[pointer] = found
         return self.marks[pointer]
@@ -170,7 +170,7 @@ class Carrier:
             found[site] = True
             if site == OUTSIDE:
                 found[_EXPOSED] = True
-            elif self.knowledge.covers(OUTSIDE, site):
+            elif self.knowledge.is_exposed(site):
                 found[OUTSIDE] = True
         return found
 

@@ -162,7 +162,7 @@ def _takes_sites(knowledge, name, sites):
     """Tell whether each of the sites is in the fact of a pointer name, or covered there."""
     fact = {site: True for site in knowledge.sites_of(("name", name))}
     is_wide = OUTSIDE in fact
-    return all([site in fact or is_wide and knowledge.covers(OUTSIDE, site) for site in sites])
+    return all([site in fact or is_wide and knowledge.is_exposed(site) for site in sites])
 
 
 def _takes_range(knowledge, name, bounds):

@@ -62,13 +62,9 @@ class Knowledge:
             return ()
         return self.facts.get(operand[1], (OUTSIDE,))
 
-    def covers(self, outer, site):
-        """Tell whether a site is another one, or covered by it."""
-        if outer == site:
-            return True
-        if outer != OUTSIDE:
-            return False
-        return site[0] == "global" or site[1] in self.escaped
+    def is_exposed(self, site):
+        """Tell whether a site is ("outside",) or covered by it."""
+        return site == OUTSIDE or site[0] == "global" or site[1] in self.escaped
 
     def may_share(self, p, q):
         """Tell whether two pointers may lead to the same object, as their sites say."""
@@ -76,9 +72,9 @@ class Knowledge:
         second = {site: True for site in self.sites_of(q)}
         if any([site in first for site in second]):
             return True
-        if OUTSIDE in first and any([self.covers(OUTSIDE, site) for site in second]):
+        if OUTSIDE in first and any([self.is_exposed(site) for site in second]):
             return True
-        return OUTSIDE in second and any([self.covers(OUTSIDE, site) for site in first])
+        return OUTSIDE in second and any([self.is_exposed(site) for site in first])
 
     def bases(self, operand):
         """Return pairs (operand, sum of offsets) of what geps without indices lead to."""

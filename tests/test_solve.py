@@ -232,6 +232,10 @@ class SolveTest(unittest.TestCase):
         # In a block that is not live nothing escapes.
         self.look(head + "export main i32 { 0(): $0 = alloca 4 condbr i1 1, 1(), 2() 1(): ret i32 0 2(): store ptr $0, @g !1 br 1() }",
                   (((0, 1), (2, 0)), (), ((0, (("at", 0),)),)))
+        # The pointer is stored before the loop brings the alloca to it.
+        self.look("global g 0 0 0 0 0 0 0 0 export main i32 { 0(): br 1(null) 1($0 ptr): $1 = gep $0, 1 store ptr $1, @g !1 $2 = load i1 @g !2 condbr $2, 2(), 3() "
+                  "2(): $3 = alloca 4 br 1($3) 3(): ret i32 0 }",
+                  ((), (3,), ((0, (("at", 3),)), (1, (("at", 3),)), (3, (("at", 3),)))))
         # null has no sites, and a pointer that is null alone keeps its empty fact.
         self.look("export main i32 { 0(): br 1(null) 1($0 ptr): $1 = gep $0, 4 ret i32 0 }", ((), (), ((0, ()), (1, ()))))
 

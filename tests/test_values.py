@@ -546,6 +546,9 @@ class ApartTest(unittest.TestCase):
         escaped = ((), (0,), self.table[2])
         self.look(0, 8, 6, 8, False, escaped)
         self.look(1, 8, 6, 8, True, escaped)
+        # One of several sites suffices, also one that ("outside",) covers.
+        for sites, told in (((("at", 1),), True), ((("at", 0), ("at", 1)), False), ((("at", 1), g), False), ((OUTSIDE,), False)):
+            self.look(2, 8, 6, 8, told, ((), (0,), ((2, sites), (6, (("at", 9), OUTSIDE)))))
 
     def test_offsets_tell_apart(self):
         self.look(0, 4, 2, 4, True)
