@@ -6,7 +6,6 @@ from burnish.edits import (
 )
 from burnish.graphsteps import changed_block
 from burnish.records import canonical, find_function, put_block, put_function
-from burnish.scopes import operand_kind
 
 
 def _inlined_names(callee):
@@ -158,8 +157,9 @@ def same_argument(module, step):
     function = _internal(module, name)
     if function is None or operand[0] == "name" or not 0 <= i < len(function[3][0][1]):
         return None
-    param, kind = function[3][0][1][i]
-    if operand_kind({}, operand) != kind or not is_known(module, operand):
+    # Where the parameter is used, an operand of another kind makes faults.
+    param = function[3][0][1][i][0]
+    if not is_known(module, operand):
         return None
     for other in module[1]:
         for call in calls_of(other, name):

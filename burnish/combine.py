@@ -42,11 +42,15 @@ class Rewriter:
             self.replaced[name] = operand
         return operand
 
+    def current(self, instruction):
+        """Return an instruction with what stands for its operands now."""
+        return map_instruction(instruction, lambda operand: self.replacement(operand))
+
     def maker_of(self, operand):
         """Return the instruction that defines a name, None for what no instruction defines."""
         if operand[0] != "name" or operand[1] not in self.makers:
             return None
-        return map_instruction(self.makers[operand[1]], self.replacement)
+        return self.current(self.makers[operand[1]])
 
     def kind_of(self, operand):
         """Return the kind of an operand."""
@@ -56,8 +60,8 @@ class Rewriter:
         """Return the function as it is."""
         changed = []
         for label, params, _, end in self.function[3]:
-            body = tuple([map_instruction(instruction, self.replacement) for instruction in self.bodies[label]])
-            changed.append((label, params, body, map_end(end, self.replacement)))
+            body = tuple([self.current(instruction) for instruction in self.bodies[label]])
+            changed.append((label, params, body, map_end(end, lambda operand: self.replacement(operand))))
         return with_blocks(self.function, changed)
 
     def solve(self):
@@ -120,7 +124,7 @@ class Rewriter:
     def look_at(self, label, k):
         """Rewrite the instruction at a place until no rule matches; tell whether it is left."""
         body = self.bodies[label]
-        body[k] = map_instruction(body[k], self.replacement)
+        body[k] = self.current(body[k])
         while not self.is_over():
             told = self.step_for(label, k, body[k])
             if told is None:

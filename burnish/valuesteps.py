@@ -1,6 +1,6 @@
 """Steps that change pure instructions and the values that are used."""
 
-from burnish.demand import everything, holds_demand
+from burnish.demand import holds_demand
 from burnish.edits import (
     Scope, are_new_names, block_in, change_names, instruction_at, is_pure, is_used, put_instructions, replace_result,
     uses, with_blocks, with_body,
@@ -9,7 +9,7 @@ from burnish.effects import callee_effects, holds_effects
 from burnish.equations import holds_equations
 from burnish.faults import Checker
 from burnish.holding import holds_values
-from burnish.lattice import is_single
+from burnish.lattice import is_single, top_of
 from burnish.linear import holds_linear, linear_form
 from burnish.records import (
     edges, find_block, find_function, is_division, map_end, map_instruction, put_block, put_function, result_kind,
@@ -248,11 +248,12 @@ def ranges(module, step):
     return put_function(module, change_names(function, changes))
 
 
-def _keeps_bits(instruction, mask):
-    """Tell whether an instruction keeps the bits of a mask of its first operand."""
-    _, op, _, operands, _, _ = instruction
+def _keeps_bits(instruction, masks):
+    """Tell whether an instruction keeps those bits of its first operand that are demanded of its result."""
+    name, op, kind, operands, _, _ = instruction
     if op not in ("and", "or", "xor") or operands[1][0] != "int":
         return False
+    mask = masks.get(name, top_of(kind))
     c = operands[1][2]
     return mask & c == mask if op == "and" else mask & c == 0
 
@@ -270,7 +271,7 @@ def demanded(module, step):
     if instruction is None or not _demand_holds(module, function, table, demand):
         return None
     masks = {known: mask for known, mask in demand}
-    if not _keeps_bits(instruction, masks.get(instruction[0], everything(result_kind(instruction)))):
+    if not _keeps_bits(instruction, masks):
         return None
     return put_function(module, change_names(function, {instruction[0]: instruction[3][0]}))
 

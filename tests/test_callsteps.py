@@ -164,7 +164,7 @@ class ArgumentTest(StepCase):
         self.refused(text, ("same_argument", "f", 0, ("int", "i32", 3)))
         text = "internal f i32 { 0($0 i32): ret $0 } export main i32 { 0(): $1 = call i32 f(i32 3) !2 $2 = call i32 f(i32 3) !3 ret $2 }"
         self.done(text, ("same_argument", "f", 0, ("int", "i32", 3)), text.replace("ret $0", "ret i32 3"))
-        self.refused(text, ("same_argument", "f", 0, ("int", "i8", 3)), ("same_argument", "f", 0, ("int", "i32", 4)))
+        self.refused(text, ("same_argument", "f", 0, ("int", "i32", 4)), ("same_argument", "f", 0, ("int", "i8", 3)))
 
     def test_calls_within_the_function(self):
         text = "internal f i32 {{ 0($0 i32, $1 i32): $2 = call i32 f({}, $1) !1 ret $2 }} export main i32 {{ 0(): $0 = call i32 f(i32 3, i32 4) !2 ret $0 }}"
@@ -175,7 +175,14 @@ class ArgumentTest(StepCase):
     def test_functions_that_nothing_calls(self):
         text = "global g 1 internal f i32 { 0($0 i32, $1 ptr): ret $0 } export main i32 { 0(): ret i32 0 }"
         self.done(text, ("same_argument", "f", 0, ("int", "i32", 3)), text.replace("ret $0", "ret i32 3"))
-        self.refused(text, ("same_argument", "f", 0, ("int", "i8", 3)), ("same_argument", "f", 1, ("global", "none")))
+        # Nothing uses the second parameter, so the operand may have any kind; the first one is used.
+        for operand in (("int", "i8", 3), ("int", "i64", 0), ("null",), ("global", "g")):
+            self.done(text, ("same_argument", "f", 1, operand), text)
+        self.faulty(text, ("same_argument", "f", 0, ("int", "i8", 3)), ("same_argument", "f", 0, ("null",)))
+        self.refused(text, ("same_argument", "f", 1, ("global", "none")), ("same_argument", "f", 1, ("name", 0)), ("same_argument", "f", 1, ("name", 1)))
+        inner = "internal f void { 0($0 i32): call void f($0) !1 ret } export main i32 { 0(): ret i32 0 }"
+        self.done(inner, ("same_argument", "f", 0, ("int", "i32", 3)), inner.replace("f($0)", "f(i32 3)"))
+        self.faulty(inner, ("same_argument", "f", 0, ("int", "i8", 3)))
         self.done(text, ("drop_argument", "f", 1), text.replace(", $1 ptr", ""))
 
 

@@ -233,6 +233,19 @@ class FormTest(unittest.TestCase):
         self.assertEqual(methods & assigned, set())
         self.assertEqual(assigned & BARRED_ATTRIBUTES, set())
 
+    def test_methods_are_called_where_they_stand(self):
+        methods = set(ALLOWED_METHODS)
+        for name in package_files():
+            for node in ast.walk(tree_of(name)):
+                if isinstance(node, ast.ClassDef):
+                    methods.update(part.name for part in node.body if isinstance(part, ast.FunctionDef) and not part.decorator_list)
+        for name in package_files():
+            tree = tree_of(name)
+            called = [node.func for node in ast.walk(tree) if isinstance(node, ast.Call)]
+            for node in ast.walk(tree):
+                if isinstance(node, ast.Attribute) and isinstance(node.ctx, ast.Load) and node.attr in methods:
+                    self.assertIn(node, called, (name, node.lineno))
+
     def test_words(self):
         for name in package_files():
             for token in code_tokens(name):

@@ -267,6 +267,10 @@ class DemandStepTest(ValueCase):
         function, solved = self.tables(text)
         return (word, "main", solved if values is None else values, solve_demand(function, solved) if demand is None else demand) + rest
 
+    def test_demanded_of_instructions_without_result(self):
+        text = "0(): $0 = alloca 4 store i32 i32 7, $0 !1 call void put(i32 65) !2 kill $0 $1 = load i32 $0 !3 ret i32 0"
+        self.refused(text, *[("demanded", "main", ((), (), ()), demand, 0, k) for k in range(6) for demand in ((), ((0, 1), (1, 0)))])
+
     def test_demanded(self):
         for op, c, fits in (("and", 15, True), ("and", 255, True), ("and", 14, False), ("and", 240, False), ("or", 16, True), ("or", 240, True), ("or", 1, False), ("or", 17, False), ("xor", 32, True), ("xor", 8, False),
                             ("add", 16, False), ("shl", 0, False)):
