@@ -8,7 +8,7 @@ from burnish.graphsteps import changed_block
 from burnish.records import canonical, find_function, put_block, put_function
 
 
-def _inlined_names(callee):
+def inlined_names(callee):
     """Return the list of the names that a function defines, without its parameters."""
     names = [made for block in callee[3] for made in block_names(block)]
     return names[len(callee[3][0][1]):]
@@ -26,7 +26,7 @@ def _returning(block, kills, label):
 def _copies(callee, call, label, labels, names):
     """Return the list of the copies of the blocks of a function for a call; they go on at a label."""
     new_labels = {block[0]: new for block, new in zip(callee[3], labels)}
-    new_names = {old: new for old, new in zip(_inlined_names(callee), names)}
+    new_names = {old: new for old, new in zip(inlined_names(callee), names)}
     changes = {old: ("name", new) for old, new in new_names.items()}
     for (param, _), operand in zip(callee[3][0][1], call[3]):
         changes[param] = operand
@@ -40,7 +40,7 @@ def _copies(callee, call, label, labels, names):
     return copies
 
 
-def _is_inlinable(callee):
+def is_inlinable(callee):
     """Tell whether all allocas of a function are in its entry."""
     return not any([made[1] == "alloca" for block in callee[3][1:] for made in block[2]])
 
@@ -53,10 +53,10 @@ def inline(module, step):
     if call is None or call[1] != "call" or call[4][0] == name:
         return None
     callee = find_function(module, call[4][0])
-    if callee is None or not _is_inlinable(callee) or len(labels) != len(callee[3]):
+    if callee is None or not is_inlinable(callee) or len(labels) != len(callee[3]):
         return None
     own = 0 if callee[1] == "void" else 1
-    if len(names) != own + len(_inlined_names(callee)):
+    if len(names) != own + len(inlined_names(callee)):
         return None
     if not are_new_names(function, names) or not are_new_labels(function, (fresh,) + labels):
         return None

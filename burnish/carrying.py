@@ -20,7 +20,7 @@ _EXPOSED = ("exposed",)
 _MOST = 8
 
 
-def _zero(kind):
+def zero_of(kind):
     """Return the operand that bytes 0 are read as."""
     return ("null",) if kind == "ptr" else ("int", kind, 0)
 
@@ -124,7 +124,7 @@ class Carrier:
     """
 
     def __init__(self, module, function, values, effects):
-        self.module = module
+        self.whole = module
         self.effects = effects
         self.knowledge = Knowledge(function, values)
         self.spots = {}
@@ -188,7 +188,7 @@ class Carrier:
         if callee == "free":
             facts.forget_marked(self.meeting(instruction[3][0]))
         elif callee not in _HARMLESS:
-            told = callee_effects(self.module, self.effects, instruction)
+            told = callee_effects(self.whole, self.effects, instruction)
             if "frees" in told or "writes" in told:
                 facts.forget_marked({_EXPOSED: True})
 
@@ -202,7 +202,7 @@ class Carrier:
         elif op == "alloca":
             for other in _KINDS:
                 if size(other) <= data[0]:
-                    facts.put(("name", name), other, _zero(other))
+                    facts.put(("name", name), other, zero_of(other))
         elif op == "kill":
             facts.forget_marked(self.meeting(operands[0]))
         elif op == "call":

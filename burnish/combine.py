@@ -15,10 +15,10 @@ class Rewriter:
     """
 
     def __init__(self, module, function, most):
-        self.module = module
+        self.whole = module
         self.function = function
         self.most = most
-        self.certificate = []
+        self.emitted = []
         self.kinds = kinds_of(function)
         self.bodies = {block[0]: list(block[2]) for block in function[3]}
         self.makers = {}
@@ -68,7 +68,7 @@ class Rewriter:
         """Solve the value table of the function as it is."""
         if self.knowledge is None:
             function = self.as_it_is()
-            self.solved = solve_values(self.module, function)
+            self.solved = solve_values(self.whole, function)
             self.knowledge = Knowledge(function, self.solved)
 
     def is_full(self, operand):
@@ -119,7 +119,7 @@ class Rewriter:
 
     def is_over(self):
         """Tell whether the certificate has as many steps as it may have."""
-        return self.most > 0 and len(self.certificate) == self.most
+        return self.most > 0 and len(self.emitted) == self.most
 
     def look_at(self, label, k):
         """Rewrite the instruction at a place until no rule matches; tell whether it is left."""
@@ -130,7 +130,7 @@ class Rewriter:
             if told is None:
                 break
             step, (word, result) = told
-            self.certificate.append(step)
+            self.emitted.append(step)
             name = body[k][0]
             if word == "operand":
                 self.note_change(name, self.is_full(result))
@@ -160,7 +160,7 @@ def combine(module, name, *, amount=0):
     labels = reached(function)
     rewriter = Rewriter(module, function, amount)
     before = -1
-    while before < len(rewriter.certificate) and not rewriter.is_over():
-        before = len(rewriter.certificate)
+    while before < len(rewriter.emitted) and not rewriter.is_over():
+        before = len(rewriter.emitted)
         rewriter.sweep(labels)
-    return tuple(rewriter.certificate)
+    return tuple(rewriter.emitted)

@@ -19,7 +19,7 @@ class Program:
     """A module with tables that find its blocks, kinds and globals quickly."""
 
     def __init__(self, module):
-        self.module = module
+        self.whole = module
         self.functions = {}
         for function in reversed(module[1]):
             self.functions[function[0]] = function

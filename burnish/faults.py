@@ -61,7 +61,7 @@ class Checker:
     """What must be known of a function to find the faults of its blocks."""
 
     def __init__(self, module, function):
-        self.module = module
+        self.whole = module
         self.kind = function[1]
         self.globals_known = {record[0]: True for record in module[0]}
         self.signatures = {}
@@ -124,7 +124,7 @@ class Checker:
     def wanted_of_call(self, kind, callee, count):
         """Return what `wanted_kinds` returns, for a call with this number of arguments."""
         if callee not in self.signatures:
-            self.signatures[callee] = signature(self.module, callee)
+            self.signatures[callee] = signature(self.whole, callee)
         told = self.signatures[callee]
         if told is None:
             return [], ["unknown"]

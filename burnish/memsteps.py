@@ -61,6 +61,19 @@ def _at_places(module, step, op, tell):
     return found
 
 
+def places_told(module, function, facts, op, tell):
+    """Return the list of the places of the instructions of an op of which something is told, block by block."""
+    safety = Safety(module, function, facts)
+    found = []
+    for label, _, body, _ in function[3]:
+        held = Facts(safety.carrier, safety.starts.get(label, ()))
+        for k, instruction in enumerate(body):
+            if instruction[1] == op and tell(safety, held, instruction) is not None:
+                found.append((label, k))
+            safety.carrier.carry(held, instruction)
+    return found
+
+
 def without_places(function, places):
     """Return the function without the instructions at the places that are keys of a dict."""
     changed = []
@@ -105,7 +118,7 @@ def insert_load(module, step):
     return put_function(module, put_block(function, with_body(block, body)))
 
 
-def _known_result(safety, held, instruction):
+def known_result(safety, held, instruction):
     """Return the pair of the result of a load and what is known of it, None if nothing is."""
     name, _, kind, operands, _, _ = instruction
     known = [worth for other, worth in held.known_of(operands[0]) if other == kind]
@@ -130,7 +143,7 @@ def _followed(changes):
 
 def forward(module, step):
     """Replace loads by what they are known to give."""
-    told = _at_places(module, step, "load", _known_result)
+    told = _at_places(module, step, "load", known_result)
     if told is None:
         return None
     changes = _followed({name: operand for name, operand in told.values()})
@@ -140,7 +153,7 @@ def forward(module, step):
     return put_function(module, change_names(left, changes))
 
 
-def _needless_store(safety, held, instruction):
+def needless_store(safety, held, instruction):
     """Return True for a store that cannot trap and changes nothing, else None."""
     _, _, kind, (worth, pointer), _, _ = instruction
     if kind == "i1" or (kind, worth) not in held.known_of(pointer):
@@ -150,11 +163,11 @@ def _needless_store(safety, held, instruction):
 
 def same_store(module, step):
     """Remove stores of what stands there."""
-    told = _at_places(module, step, "store", _needless_store)
+    told = _at_places(module, step, "store", needless_store)
     return None if told is None else _remove_at(module, step[1], told)
 
 
-def _is_passed(safety, instruction, store):
+def is_passed(safety, instruction, store):
     """Tell whether an instruction between two stores does not ask for what the first one stored."""
     _, op, kind, operands, _, _ = instruction
     pointer = store[3][1]
@@ -176,12 +189,12 @@ def dead_store(module, step):
     safety = Safety(module, function, facts)
     if not safety.is_safe_store(safety.facts_at(label, k), first[2], pointer):
         return None
-    if not all([_is_passed(safety, between, first) for between in block[2][k + 1:j]]):
+    if not all([is_passed(safety, between, first) for between in block[2][k + 1:j]]):
         return None
     return put_instructions(module, function, block, k, ())
 
 
-def _unread_store(safety, held, instruction):
+def unread_by_loads(safety, held, instruction):
     """Return True for a store that cannot trap and that no load reads, else None."""
     _, _, kind, (_, pointer), _, _ = instruction
     if not safety.is_safe_store(held, kind, pointer):
@@ -191,5 +204,5 @@ def _unread_store(safety, held, instruction):
 
 def unread_store(module, step):
     """Remove stores that no load reads."""
-    told = _at_places(module, step, "store", _unread_store)
+    told = _at_places(module, step, "store", unread_by_loads)
     return None if told is None else _remove_at(module, step[1], told)

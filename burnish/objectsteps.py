@@ -6,7 +6,7 @@ from burnish.records import edges, end_operands, find_function, map_instruction,
 from burnish.words import from_bytes, size, width, wrap
 
 
-def _users(function):
+def users_of(function):
     """Return a dict from each operand to the list of (instruction, index) of its uses; no instruction is an end."""
     found = {}
     for _, _, body, end in function[3]:
@@ -18,7 +18,7 @@ def _users(function):
     return found
 
 
-def _is_access(instruction, index, ops):
+def is_access(instruction, index, ops):
     """Tell whether a use is as the pointer of an instruction of one of the ops."""
     return instruction is not None and instruction[1] in ops and index == (1 if instruction[1] == "store" else 0)
 
@@ -34,11 +34,11 @@ def _pointers_from(users, first, ops):
     while waiting:
         pointer = waiting.pop()
         for instruction, index in users.get(pointer, ()):
-            if _is_access(instruction, index, ("gep",)):
+            if is_access(instruction, index, ("gep",)):
                 # A gep has one base, so that it is found once.
                 found[("name", instruction[0])] = True
                 waiting.append(("name", instruction[0]))
-            elif not _is_access(instruction, index, ops):
+            elif not is_access(instruction, index, ops):
                 return None
     return found
 
@@ -79,10 +79,10 @@ def _is_split(users, parts, pointer, offset, told):
     Geps of it may be uses if told.
     """
     for instruction, index in users.get(pointer, ()):
-        if told and _is_access(instruction, index, ("gep",)) and len(instruction[3]) == 1:
+        if told and is_access(instruction, index, ("gep",)) and len(instruction[3]) == 1:
             if not _is_split(users, parts, ("name", instruction[0]), instruction[4][0], False):
                 return False
-        elif not _is_access(instruction, index, ("load", "store")) or not parts.holds(offset, instruction[2]):
+        elif not is_access(instruction, index, ("load", "store")) or not parts.holds(offset, instruction[2]):
             return False
     return True
 
@@ -98,7 +98,7 @@ def split_alloca(module, step):
         return None
     whole = ("name", instruction[0])
     parts = Parts(sizes, names)
-    if not _is_split(_users(function), parts, whole, 0, True):
+    if not _is_split(users_of(function), parts, whole, 0, True):
         return None
 
     def changed(row):
@@ -166,7 +166,7 @@ def drop_kills(module, step):
     if function is None:
         return None
     made = [row for block in function[3] for row in block[2] if row[0] == target and row[1] == "alloca"]
-    users = _users(function)
+    users = users_of(function)
     pointers = _pointers_from(users, ("name", target), ("load", "store", "kill"))
     if not made or pointers is None:
         return None
@@ -209,7 +209,7 @@ def fix_global(module, step):
     if not _has_global(module, name):
         return None
     for function in module[1]:
-        if _pointers_from(_users(function), ("global", name), ("load",)) is None:
+        if _pointers_from(users_of(function), ("global", name), ("load",)) is None:
             return None
     return (tuple([(row[0], row[1] or row[0] == name, row[2]) for row in module[0]]), module[1])
 
@@ -217,6 +217,6 @@ def fix_global(module, step):
 def drop_global(module, step):
     """Remove a global that nothing uses."""
     name = step[1]
-    if not _has_global(module, name) or any([("global", name) in _users(function) for function in module[1]]):
+    if not _has_global(module, name) or any([("global", name) in users_of(function) for function in module[1]]):
         return None
     return (tuple([row for row in module[0] if row[0] != name]), module[1])

@@ -305,10 +305,13 @@ class FormTest(unittest.TestCase):
             for node in ast.walk(tree_of(name)):
                 if isinstance(node, ast.FunctionDef) and any(isinstance(part, ast.Yield) for part in ast.walk(node)):
                     found.append(node.name)
-        self.assertEqual(found, ["visits"])
+        self.assertEqual(found, ["candidates", "visits"])
         for name in package_files():
-            for node in ast.walk(tree_of(name)):
-                self.assertNotEqual(getattr(node, "attr", getattr(node, "id", "")), "visits", name)
+            tree = tree_of(name)
+            heads = [node.iter.func for node in ast.walk(tree) if isinstance(node, ast.For) and isinstance(node.iter, ast.Call)]
+            for node in ast.walk(tree):
+                if getattr(node, "attr", getattr(node, "id", "")) in found:
+                    self.assertIn(node, heads, name)
 
     def test_generator_expressions_are_not_needed(self):
         for name in package_files():

@@ -57,6 +57,25 @@ LISTED = {
     "check": "apply_step(module,step) check(module,certificate)",
     "rules": "rewrite(function,instruction,number,names) ranged(function,values,instruction,number,names)",
     "combine": "combine(module,name,*,amount=0)",
+    "constants": "constants(module,name,*,amount=0)",
+    "numbering": "numbering(module,name,*,amount=0) leaders(function,table)",
+    "deadcode": "deadcode(module,name,*,amount=0) needed_names(module,name)",
+    "sinking": "sinking(module,name,*,amount=0)",
+    "promote": "drop_kills(module,name,*,amount=1000) promote(module,name,*,amount=1000) uniform_allocas(function) joins(function,name)",
+    "objects": "split(module,name,*,amount=1000) parts(function,name) globals_pass(module,name,*,amount=1000)",
+    "stores": "forward_loads(module,name,*,amount=1000) dead_stores(module,name,*,amount=1000)",
+    "plainloops": "simple_loops(function) plain(module,name,*,amount=1000) close(module,name,*,amount=1000) rotate(module,name,*,amount=1000)",
+    "invariants": "hoist(module,name,*,amount=1000) unswitch(module,name,*,amount=4)",
+    "unroll": "peel(module,name,*,amount=1) unroll(module,name,*,amount=2)",
+    "strength": "counters(function,loop) strength(module,name,*,amount=1000)",
+    "inline": "inline(module,name,*,amount=30) tails(module,name,*,amount=0)",
+    "arguments": "arguments(module,name,*,amount=0) merge(module,name,*,amount=0) drop(module,name,*,amount=0)",
+    "tidy": "chain(function,label,slot) tidy(module,name,*,amount=0)",
+    "thread": "decided(function,label,slot) thread(module,name,*,amount=16)",
+    "packing": "pack(value) unpack(data) check_bytes(module,data)",
+    "manager": "whole_module(word) run_pass(module,word,name,amount) show_script(script) read_script(text) run_script(module,script) "
+               "join(entries) optimize(module,passes)",
+    "bisect": "first_bad(module,entries,wrong) first_parting(modules,inputs,fuel) candidates(module) shrink(module,wrong)",
 }
 ERRORS = {"BurnishError": "", "TextError": "at", "ScriptError": "at", "UnknownPass": "word", "UnknownFunction": "name", "PackError": "at"}
 
@@ -101,6 +120,19 @@ class InterfaceTest(unittest.TestCase):
             tree = ast.parse(file.read())
         found = [node for node in tree.body if isinstance(node, ast.ClassDef) and node.name == name][0]
         self.assertLessEqual(wanted, {node.name for node in found.body if isinstance(node, ast.FunctionDef)})
+
+    def test_session(self):
+        module = importlib.import_module("burnish.manager")
+        session = module.Session
+        self.assertEqual(shown(session), "(module)")
+        self.assertEqual(shown(session.run), "(self,word,name,*,amount=-1)")
+        self.assertEqual(shown(session.undo), "(self)")
+        self.assertEqual(shown(session.count), "(self)")
+        for name in ("module", "certificate"):
+            self.assertIsInstance(vars(session)[name], property)
+        self.look_at_body(module, "Session", {"__init__", "run", "undo", "count", "module", "certificate"})
+        self.assertIsInstance(module.PASSES, tuple)
+        self.assertTrue(inspect.isgeneratorfunction(importlib.import_module("burnish.bisect").candidates))
 
     def test_scope(self):
         module = importlib.import_module("burnish.edits")
