@@ -11,6 +11,8 @@ from burnish.graphsteps import (
 from burnish.memsteps import dead_store, delete_load, forward, insert_load, same_store, unread_store
 from burnish.objectsteps import constant_load, drop_global, drop_kills, fix_global, split_alloca
 from burnish.paramsteps import add_param, copy, copy_region, same_param, use_params
+from burnish.records import find_function
+from burnish.scopes import reached
 from burnish.twins import twins
 from burnish.valuesteps import (
     delete_call, demanded, drop_names, equal, insert, linear, move, prefer, ranged_rule, ranges, rule, same, undemanded,
@@ -29,6 +31,30 @@ STEPS = {
     "split_entry": split_entry, "tail": tail, "drop_argument": drop_argument, "same_argument": same_argument,
     "drop_result": drop_result, "same_function": same_function, "drop_function": drop_function,
 }
+
+
+# Where the condition of one of these steps holds, the changed module has no faults.
+_FAULTLESS = (
+    "prune", "fold_end", "drop_case", "as_condbr", "swap", "cut", "skip", "gather", "copy", "add_param", "same_param",
+    "fork", "edge_value", "rename", "insert", "drop_names", "delete_call", "delete_load", "prefer", "move", "ranges",
+    "demanded", "undemanded", "equal", "forward", "same_store", "insert_load", "dead_store", "unread_store",
+    "split_alloca", "drop_kills", "constant_load", "inline",
+)
+
+# The same, if a path reaches every block: elsewhere a name may stand for itself.
+_FAULTLESS_REACHED = (
+    "join", "copy_region", "twins", "use_params", "same", "rule", "ranged_rule", "linear", "tail",
+)
+
+
+def _needs_no_look(module, step):
+    """Tell whether a step that was done makes no faults, whatever else is in the module."""
+    if step[0] in _FAULTLESS:
+        return True
+    if step[0] not in _FAULTLESS_REACHED:
+        return False
+    function = find_function(module, step[1])
+    return len(reached(function)) == len(function[3])
 
 
 def _outline(module):
@@ -54,9 +80,9 @@ def apply_step(module, step):
         return None
     action = STEPS[step[0]]
     changed = action(module, step)
-    if changed is None or not _has_no_faults(module, changed):
-        return None
-    return changed
+    if changed is None or _needs_no_look(module, step) or _has_no_faults(module, changed):
+        return changed
+    return None
 
 
 def check(module, certificate):

@@ -107,6 +107,15 @@ def block_uses(block, names):
     return found
 
 
+def _uses_any(block, names):
+    """Tell whether a block uses one of the names of a dict."""
+    for instruction in block[2]:
+        for operand in instruction[3]:
+            if operand[0] == "name" and operand[1] in names:
+                return True
+    return any([operand[0] == "name" and operand[1] in names for operand in end_operands(block[3])])
+
+
 def uses(function, name):
     """Return the list of (label, position, index) of the uses of a name."""
     found = []
@@ -170,7 +179,7 @@ def renaming(changes):
 
 def change_block(block, changes):
     """Return the block with the operands of a dict in the place of the names in it."""
-    if not block_uses(block, changes):
+    if not _uses_any(block, changes):
         return block
     change = renaming(changes)
     label, params, body, end = block
@@ -179,6 +188,8 @@ def change_block(block, changes):
 
 def change_names(function, changes):
     """Return the function with the operands of a dict in the place of the names in it."""
+    if not changes:
+        return function
     return with_blocks(function, [change_block(block, changes) for block in function[3]])
 
 
