@@ -28,6 +28,24 @@ def _followed(passable, label):
     return found, label not in passable
 
 
+def _ending(passable):
+    """Return a dict with the passable labels whose chains end at a label that is not passable."""
+    found = {}
+    known = {}
+    for first in passable:
+        label = first
+        row = []
+        while label in passable and label not in known:
+            known[label] = True
+            row.append(label)
+            label = passable[label]
+        # A label that was met on the way itself has no end yet, nor will it have one.
+        if label not in passable or label in found:
+            for passed in row:
+                found[passed] = True
+    return found
+
+
 def chain(function, label, slot):
     """Return the list of the labels of the chain of an edge, and whether it ends at a block that is not passable."""
     return _followed(_passable(function), edge_at(function, label, slot)[0])
@@ -119,12 +137,11 @@ class Tidier:
 
     def skips(self):
         """Return the steps for edges that can be cut short."""
-        passable = _passable(self.function)
+        ending = _ending(_passable(self.function))
         found = []
         for label, _, _, end in self.rows:
-            for slot, (target, _) in enumerate(edges(end)):
-                if target in passable and _followed(passable, target)[1]:
-                    found.append(("skip", self.name, label, slot))
+            row = [slot for slot, (target, _) in enumerate(edges(end)) if target in ending]
+            found.extend([("skip", self.name, label, slot) for slot in row])
         return found
 
     def first_part(self, part):
