@@ -1,6 +1,7 @@
 """Combine: instructions rewritten by rules until none matches."""
 
 from burnish.edits import with_blocks
+from burnish.foresight import Foresight
 from burnish.records import find_function, map_end, map_instruction
 from burnish.rules import first_ranged, first_rewrite, has_ranged_rule
 from burnish.scopes import kinds_of, operand_kind, reached
@@ -31,6 +32,7 @@ class Rewriter:
         # What the value table of the function as it is says, None where that is not solved.
         self.solved = ()
         self.knowledge = None
+        self.foresight = Foresight(self)
 
     def replacement(self, operand):
         """Return what stands for an operand now."""
@@ -82,26 +84,15 @@ class Rewriter:
             return True
         return op in ("add", "sub", "xor") and any([self.is_full(operand) for operand in operands])
 
-    def asks_for_ranges(self, instruction):
-        """Tell whether a rule that asks for ranges may match an instruction on which no other rule matches.
-
-        Where a range is full, only constants beside it could make a rule
-        match, and for these there are other rules.
-        """
-        _, op, _, operands, _, _ = instruction
-        if not has_ranged_rule(instruction):
-            return False
-        if op in ("select", "ashr"):
-            return not self.is_full(operands[0])
-        told = [operand[0] == "int" or self.is_full(operand) for operand in operands]
-        return not all(told) or not any([self.is_full(operand) for operand in operands])
-
     def note_change(self, name, remains):
         """Note that a name is made anew; tell whether it still has the full range, or what stands for it."""
         self.knowledge = None
-        if name in self.full and not remains:
+        lost = name in self.full and not remains
+        if lost:
             # Other names were found to be full because this one was.
             self.full = {param: True for param, _ in self.function[3][0][1]}
+        if lost or name in self.foresight.found:
+            self.foresight.found = {}
 
     def step_for(self, label, k, instruction):
         """Return (step, result) of the rule for the instruction at a place, None if none matches."""
@@ -109,7 +100,7 @@ class Rewriter:
         told = first_rewrite(self, instruction, 0)
         if told is not None:
             return (("rule", name, label, k, told[0], ()), told[1])
-        if not self.asks_for_ranges(instruction):
+        if not has_ranged_rule(instruction) or not self.foresight.may_match(instruction):
             return None
         self.solve()
         told = first_ranged(self.knowledge, instruction, 0)

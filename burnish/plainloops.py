@@ -2,8 +2,9 @@
 
 from burnish.drafting import over_functions
 from burnish.edits import block_names, block_uses, incoming, used_in
+from burnish.flow import tree_spans
 from burnish.graph import backwards, graph_of, reverse_postorder
-from burnish.loops import loop_exits, loops
+from burnish.loops import innermost, loops
 from burnish.records import edges, find_block, new_label
 from burnish.scopes import kinds_of
 
@@ -81,56 +82,87 @@ def gather_edges(draft, places):
 
 
 class Gathering:
-    """Gathers edges of a function, so often at most."""
+    """Gathers edges of a function, so often at most.
+
+    New blocks make no loops and change no loop but by belonging to it, so
+    that the loops are looked for only once.
+    """
 
     def __init__(self, draft, amount):
         self.draft = draft
         self.left = amount
-        self.nesting = Nesting(draft.subject())
+        graph = graph_of(draft.subject())
+        self.targets = {label: list(targets) for label, targets in graph}
+        self.sources = {label: [] for label, _ in graph}
+        for label, targets in sorted(graph):
+            for slot, target in enumerate(targets):
+                self.sources[target].append((label, slot))
+        self.rows = loops(graph)
+        self.parents = {loop[0]: loop[3] for loop in self.rows}
+        self.holders = innermost(graph)
+        # Each loop has a number, and the loops in it have the next ones.
+        nodes = {loop[0]: k + 1 for k, loop in enumerate(self.rows)}
+        nodes[-1] = 0
+        lows, highs = tree_spans([-1] + [nodes[loop[3]] for loop in self.rows])
+        self.lows = {header: lows[node] for header, node in nodes.items()}
+        self.highs = {header: highs[node] for header, node in nodes.items()}
 
-    def gather(self, places):
-        """Gather edges; the last time comes when a step is refused."""
-        if self.left > 0 and gather_edges(self.draft, places):
-            self.left -= 1
-            self.nesting = Nesting(self.draft.subject())
-        else:
+    def is_inside(self, label, header):
+        """Tell whether a label is in the loop of a header."""
+        return self.lows[header] <= self.lows[self.holders[label]] <= self.highs[header]
+
+    def gather(self, target, places, holder):
+        """Gather edges to a block in a new block that is right in a loop; none will follow a step that is refused."""
+        fresh = new_label(self.draft.subject())
+        if self.left == 0 or not gather_edges(self.draft, places):
             self.left = 0
+            return
+        self.left -= 1
+        for label, slot in places:
+            self.targets[label][slot] = fresh
+        self.targets[fresh] = [target]
+        self.sources[target] = sorted([place for place in self.sources[target] if place not in places] + [(fresh, 0)])
+        self.sources[fresh] = places
+        self.holders[fresh] = holder
 
-    def edges_to(self, target, loop, inside):
-        """Return the list of the edges to a block from the labels of a loop, or from all others."""
-        labels = {label: True for label in loop[1]}
-        return [place for place in incoming(self.draft.subject(), target) if (place[0] in labels) == inside]
+    def split_sources(self, target, header):
+        """Return the lists of the edges to a block from the loop of a header and from outside of it."""
+        inner = [place for place in self.sources[target] if self.is_inside(place[0], header)]
+        return inner, [place for place in self.sources[target] if place not in inner]
 
     def mend_header(self, header):
         """Give a header a preheader and one back edge."""
-        loop = self.nesting.loop_of(header)
-        if self.nesting.ahead_of(loop) == -1:
-            self.gather(self.edges_to(header, loop, False))
-        if self.left > 0:
-            back = self.edges_to(header, loop, True)
-            if len(back) != 1:
-                self.gather(back)
+        back, outside = self.split_sources(header, header)
+        if len(outside) != 1 or self.targets[outside[0][0]] != [header]:
+            self.gather(header, outside, self.parents[header])
+        if len(back) != 1:
+            self.gather(header, back, header)
 
     def mend_exits(self, header):
         """Let the exits of a loop lead to blocks to which no other edges lead."""
-        loop = self.nesting.loop_of(header)
-        targets = [target for _, _, target in loop_exits(self.nesting.graph, loop)]
-        inside = {label: True for label in loop[1]}
-        for target in sorted(set(targets)):
-            if self.left > 0 and not all([label in inside for label in self.nesting.sources[target]]):
-                self.gather(self.edges_to(target, loop, True))
+        found = {}
+        for label, targets in self.targets.items():
+            if self.is_inside(label, header):
+                for target in targets:
+                    if not self.is_inside(target, header):
+                        found[target] = True
+        for target in sorted(found):
+            inner, outside = self.split_sources(target, header)
+            if outside:
+                holder = self.parents[header]
+                while holder != -1 and not self.is_inside(target, holder):
+                    holder = self.parents[holder]
+                self.gather(target, inner, holder)
 
 
 def _make_plain(draft, amount):
     """Bring the loops of a function into plain form."""
     draft.prune()
     gathering = Gathering(draft, amount)
-    rows = [(-loop[4], loop[0]) for loop in gathering.nesting.found]
-    for header in sorted([header for _, header in rows]):
-        if gathering.left > 0:
-            gathering.mend_header(header)
+    for loop in gathering.rows:
+        gathering.mend_header(loop[0])
     # What is gathered at the exits of a loop changes no exits of loops that came before.
-    for _, header in sorted(rows):
+    for _, header in sorted([(-loop[4], loop[0]) for loop in gathering.rows]):
         if gathering.left > 0:
             gathering.mend_exits(header)
 
