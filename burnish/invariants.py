@@ -47,7 +47,7 @@ class Hoister:
 
     def hoist_all(self):
         """Move what can be moved, from the innermost loops outwards."""
-        for loop in sorted(self.nesting.found, key=lambda loop: (-loop[4], loop[0])):
+        for loop in sorted(self.nesting.found, key=lambda row: (-row[4], row[0])):
             self.hoist_from(loop)
 
 

@@ -69,42 +69,37 @@ def leaders(function, table):
     return sorted(found)
 
 
-def _divisions(function):
-    """Return a dict from each division, but for its name and place, to the list of its places."""
-    found = {}
-    for label, _, body, _ in function[3]:
-        for k, made in enumerate(body):
-            if is_division(made[1]):
-                found.setdefault(made[1:5], []).append((label, k))
-    return found
+class Divisions:
+    """The divisions of a function as it is, found by what they do."""
 
+    def __init__(self, function):
+        self.scope = Scope(function)
+        self.bodies = {block[0]: block[2] for block in function[3]}
+        self.groups = {}
+        for label, body in self.bodies.items():
+            for k, made in enumerate(body):
+                if is_division(made[1]):
+                    self.groups.setdefault(made[1:5], []).append((label, k))
 
-def _equal_division(draft, label, k, made):
-    """Return the first place of another division that is equal and available at a place, or None."""
-    function = draft.subject()
-    rows = _divisions(function)[made[1:5]]
-    if len(rows) == 1:
+    def equal_to(self, label, k):
+        """Return the first place of another division that is equal to that at a place and available there, or None."""
+        for other, j in self.groups.get(self.bodies[label][k][1:5], ()):
+            result = ("name", self.bodies[other][j][0])
+            if (other, j) != (label, k) and self.scope.available(result, label, k):
+                return (other, j)
         return None
-    scope = Scope(function)
-    bodies = {block[0]: block[2] for block in function[3]}
-    for other, j in rows:
-        if (other, j) != (label, k) and scope.available(("name", bodies[other][j][0]), label, k):
-            return (other, j)
-    return None
 
 
 def _merge_divisions(draft):
     """Take the results of divisions for those of equal ones."""
+    divisions = Divisions(draft.subject())
     for label in [block[0] for block in draft.subject()[3]]:
         k = 0
-        while True:
-            body = [block[2] for block in draft.subject()[3] if block[0] == label][0]
-            while k < len(body) and not is_division(body[k][1]):
-                k += 1
-            if k == len(body):
-                break
-            place = _equal_division(draft, label, k, body[k])
-            if place is None or not draft.emit(("same", draft.name, label, k) + place):
+        while k < len(divisions.bodies[label]):
+            place = divisions.equal_to(label, k)
+            if place is not None and draft.emit(("same", draft.name, label, k) + place):
+                divisions = Divisions(draft.subject())
+            else:
                 k += 1
 
 

@@ -1,5 +1,6 @@
 """Stores: loads of what is known, and stores that nothing needs."""
 
+from burnish.carrying import Facts
 from burnish.drafting import over_functions
 from burnish.effects import solve_effects
 from burnish.memfacts import solve_memory
@@ -38,16 +39,17 @@ def forward_loads(module, name, *, amount=1000):
     return over_functions(module, name, _forward_all, amount)
 
 
-def _later_store(safety, body, k):
-    """Return the least j for which the store at k is dead because of that at j, or None."""
-    first = body[k]
-    for j in range(k + 1, len(body)):
-        made = body[j]
-        if made[1] == "store" and made[2] == first[2] and made[3][1] == first[3][1]:
-            return j
-        if not is_passed(safety, made, first):
-            return None
-    return None
+def _later_stores(body):
+    """Return a dict from the index of a store to that of the next one of its kind at its pointer."""
+    found = {}
+    behind = {}
+    for k in range(len(body) - 1, -1, -1):
+        _, op, kind, operands, _, _ = body[k]
+        if op == "store":
+            if (kind, operands[1]) in behind:
+                found[k] = behind[(kind, operands[1])]
+            behind[(kind, operands[1])] = k
+    return found
 
 
 def _first_dead(draft, facts):
@@ -55,12 +57,14 @@ def _first_dead(draft, facts):
     function = draft.subject()
     safety = Safety(draft.whole, function, facts)
     for label, _, body, _ in function[3]:
+        later = _later_stores(body)
+        held = Facts(safety.carrier, safety.starts.get(label, ()))
         for k, made in enumerate(body):
-            if made[1] != "store":
-                continue
-            j = _later_store(safety, body, k)
-            if j is not None and safety.is_safe_store(safety.facts_at(label, k), made[2], made[3][1]):
-                return (label, k, j)
+            # A store further behind is not better: the same stands between.
+            if k in later and all([is_passed(safety, between, made) for between in body[k + 1:later[k]]]):
+                if safety.is_safe_store(held, made[2], made[3][1]):
+                    return (label, k, later[k])
+            safety.carrier.carry(held, made)
     return None
 
 

@@ -4,7 +4,9 @@ import copy
 import random
 
 from burnish.check import check
+from burnish.edits import defined_names
 from burnish.faults import faults
+from burnish.graphsteps import renamed
 from burnish.records import find_function
 from burnish.show import show_module
 from samples import Maker
@@ -16,8 +18,20 @@ def random_module(seed, **wanted):
     """Return a random module; every third one has blocks in any order, the others come from branches and loops."""
     rnd = random.Random(seed)
     if seed % 3 == 0:
-        return Maker(rnd, blocks=rnd.randrange(3, 11), rows=rnd.randrange(1, 8)).module()
-    return Shaper(rnd, statements=wanted.get("statements", rnd.randrange(3, 8)), depth=wanted.get("depth", rnd.randrange(1, 4))).module()
+        module = Maker(rnd, blocks=rnd.randrange(3, 11), rows=rnd.randrange(1, 8)).module()
+    else:
+        module = Shaper(rnd, statements=wanted.get("statements", rnd.randrange(3, 8)), depth=wanted.get("depth", rnd.randrange(1, 4))).module()
+    return mixed(rnd, module) if seed % 4 == 1 else module
+
+
+def mixed(rnd, module):
+    """Return the module with names and labels that stand in no order."""
+    functions = []
+    for function in module[1]:
+        labels, names = [block[0] for block in function[3]], defined_names(function)
+        news = [rnd.sample(range(2 * len(row) + 5), len(row)) for row in (labels, names)]
+        functions.append(renamed(function, dict(zip(labels, news[0])), dict(zip(names, news[1]))))
+    return (module[0], tuple(functions))
 
 
 class PassCase(StepCase):

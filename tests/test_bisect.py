@@ -135,6 +135,8 @@ class FirstTest(unittest.TestCase):
         # Wrong for some of them, right again behind them.
         self.assertEqual(first_bad(module, entries, lambda told: told in (modules[2], modules[4])), 2)
         self.assertEqual(check(module, join(entries))[0], changed)
+        # Nothing is wrong behind a certificate that leads nowhere.
+        self.assertEqual(first_bad(module, entries[:1] + [("tidy", "main", (("prune", "none"),))] + entries, lambda told: told == modules[2]), -1)
 
     def test_first_parting(self):
         texts = ["ret $0", "br 1() 1(): ret $0", "ret i32 5", "stop !1"]

@@ -49,6 +49,8 @@ class ScriptTest(unittest.TestCase):
         self.both((("pass", "combine", 0), ("pass", "peel", 10000)), "combine 0; peel 10000")
         self.both((("until", 100, (("pass", "tidy", 1), ("pass", "dead_stores", -1))), ("pass", "drop", -1)), "until 100 {tidy 1; dead_stores}; drop")
         self.both((("on", "f_1", (("until", 1, (("on", "until", (("pass", "split", -1),)),)),)),), "on f_1 {until 1 {on until {split}}}")
+        self.both((("on", "z9", (("pass", "tidy", -1),)),), "on z9 {tidy}")
+        self.both((("on", "zzz", (("pass", "tidy", -1),)),), "on zzz {tidy}")
         self.both((("on", "a" * 20, (("pass", "tidy", -1),)),), "on " + "a" * 20 + " {tidy}")
 
     def test_blanks(self):
@@ -183,6 +185,11 @@ class RunScriptTest(StepCase):
         self.assertEqual(told, [("tidy", name, count) for counts in ((0, 0, 1), (0, 0, 1), (0, 0, 0)) for name, count in zip(("add1", "unused", "main"), counts)])
         changed, told = self.look(module, (("until", 1, (("pass", "tidy", 1),)),))
         self.assertEqual(len(told), 3)
+        # It goes on as long as one of the certificates is not empty, wherever that stands.
+        changed, told = self.look(module, (("until", 9, (("on", "main", (("pass", "tidy", 1), ("pass", "numbering", -1))),)),))
+        self.assertEqual(told, [("tidy", "main", 1), ("numbering", "main", 0)] * 2 + [("tidy", "main", 0), ("numbering", "main", 0)])
+        changed, told = self.look(module, (("until", 9, (("until", 1, (("on", "main", (("pass", "tidy", 1),)),)),)),))
+        self.assertEqual(told, [("tidy", "main", 1), ("tidy", "main", 1), ("tidy", "main", 0)])
         changed, told = self.look(module, (("until", 100, (("until", 2, (("on", "main", (("pass", "tidy", 1),)),)), ("pass", "drop", -1))),))
         self.assertEqual(told, [("tidy", "main", 1), ("tidy", "main", 1), ("drop", "", 1), ("tidy", "main", 0), ("drop", "", 0)])
 
@@ -245,6 +252,14 @@ class SessionTest(unittest.TestCase):
         self.assertEqual(self.state(session), states[0])
         self.assertEqual(session.run("combine", "main"), 1)
         self.assertEqual(session.count(), 1)
+
+    def test_defaults(self):
+        module = parse_module(TEXT)
+        for word in PASSES:
+            session = Session(module)
+            name = "" if whole_module(word) else "main"
+            self.assertEqual(session.run(word, name), len(run_pass(module, word, name, -1)))
+            self.assertEqual(session.certificate, run_pass(module, word, name, -1))
 
     def test_errors_change_nothing(self):
         session = Session(parse_module(TEXT))

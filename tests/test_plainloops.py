@@ -12,7 +12,7 @@ from burnish.plainloops import close, plain, rotate, simple_loops
 from burnish.records import find_block, find_function, new_label, new_name
 from burnish.run import run
 from burnish.scopes import kinds_of, reached
-from passing import PassCase, random_module
+from passing import PassCase, mixed, random_module
 from samples import Maker
 from test_bounds import shallow
 
@@ -23,7 +23,8 @@ LOOP = "0(): $0 = call i32 get() !1 br 1(i32 0) 1($1 i32): $2 = icmp ult i32 $1,
 def branchy(seed):
     """Return a module whose graph has many edges, often back."""
     rnd = random.Random(seed)
-    return Maker(rnd, blocks=rnd.randrange(4, 10), rows=rnd.randrange(0, 3)).module()
+    module = Maker(rnd, blocks=rnd.randrange(4, 10), rows=rnd.randrange(0, 3)).module()
+    return mixed(rnd, module) if seed % 4 == 1 else module
 
 
 def slow_simple(function):

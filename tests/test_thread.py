@@ -155,6 +155,12 @@ class ThreadTest(PassCase):
         self.assertEqual(thread(module, "main"), thread(module, "main", amount=16))
         self.assertEqual([step[5] for step in thread(module, "main") if step[0] == "copy"], [((0, 0),), ((0, 1),), ((0, 2),)])
 
+    def test_default_amount(self):
+        cases = ", ".join(f"{k}: 1(i32 {k})" for k in range(1, 20))
+        module = self.module(GET + f"switch $0, {cases}, else 1($0) 1($2 i32): switch $2, 1: 2(), else 3() 2(): ret i32 2 3(): ret i32 3")
+        self.assertEqual(self.words(self.passed(thread, module)[0]).count("copy"), 16)
+        self.assertEqual(self.words(self.passed(thread, module, amount=30)[0]).count("copy"), 19)
+
     def test_labels_at_the_bound(self):
         self.leaves(thread, GET + "condbr $1, 1(i32 3), 1($0) 1($2 i32): switch $2, 3: 2(), else 999999999() 2(): ret i32 2 999999999(): ret i32 3")
 
