@@ -341,6 +341,14 @@ class SinkingTest(PassCase):
         text = "0(): br 2(i8 0) 2($9 i8): $8 = add i8 $9, i8 1 $2 = xor i8 $8, i8 85 $7 = icmp ult i8 $8, i8 100 condbr $7, 2($8), 4() 4(): $3 = zext i32 $2 ret $3"
         self.leads(sinking, text, "0(): br 2(i8 0) 2($9 i8): $8 = add i8 $9, i8 1 $7 = icmp ult i8 $8, i8 100 condbr $7, 2($8), 4() 4(): $2 = xor i8 $8, i8 85 $3 = zext i32 $2 ret $3")
 
+    def test_blocks_in_another_order(self):
+        # Block 2 stands ahead of block 1, so that it is looked at when two instructions were put to its beginning.
+        text = ("0(): $0 = call i32 get() !1 br 1() 2(): $3 = xor i32 $0, i32 7 $5 = icmp eq i32 $0, i32 5 condbr $5, 3(), 5() 3(): $6 = add i32 $2, $3 $11 = add i32 $6, $8 ret $11 "
+                "5(): $9 = add i32 $2, $8 ret $9 1(): $2 = mul i32 $0, $0 $8 = or i32 $0, i32 9 $7 = icmp eq i32 $0, i32 0 condbr $7, 2(), 4() 4(): ret i32 0")
+        certificate = self.passed(sinking, self.module(text))[0]
+        self.assertEqual(certificate, (("move", "main", 1, 1, 2, 0), ("move", "main", 1, 0, 2, 0), ("move", "main", 2, 2, 3, 0)))
+        self.assertEqual(certificate, slow_sinking(self.module(text), "main"))
+
     def test_blocks_that_no_path_reaches(self):
         text = GET + "$2 = mul i8 $1, $1 $3 = icmp eq i8 $1, i8 0 condbr $3, 1(), 2() 1(): $4 = zext i32 $2 ret $4 2(): ret i32 0 7(): $5 = zext i32 $2 ret $5"
         self.leaves(sinking, text)
