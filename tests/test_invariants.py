@@ -4,13 +4,15 @@ import random
 import unittest
 
 from burnish.check import apply_step, check
-from burnish.edits import is_pure
-from burnish.graph import definition_places, graph_of, reverse_postorder
+from burnish.edits import block_names, incoming, is_pure, uses
+from burnish.graph import definition_places, graph_of, live_names, reverse_postorder
 from burnish.invariants import hoist, unswitch
 from burnish.loops import loops, preheader
 from burnish.plainloops import plain, simple_loops
-from burnish.records import find_block, find_function
-from burnish.scopes import reached
+from burnish.records import find_block, find_function, new_label, new_name
+from burnish.scopes import kinds_of, reached
+from burnish.solve import solve_values
+from burnish.values import range_of
 from passing import PassCase, random_module
 from shaped import Shaper
 from test_bounds import shallow
@@ -100,6 +102,66 @@ def conditions(function):
     return found
 
 
+def slow_unswitch(module, name, amount):
+    """Return the steps of unswitch, by the words of the document."""
+    found = []
+
+    def emit(*step):
+        nonlocal module
+        found.append(step)
+        module = apply_step(module, step)
+
+    def function():
+        return find_function(module, name)
+
+    def give(known, labels):
+        pairs = []
+        for label in labels:
+            pairs.append((label, len(find_block(function(), label)[1])))
+            emit("add_param", name, label, new_name(function()), kinds_of(function())[known], (("name", known),) * len(incoming(function(), label)))
+        emit("use_params", name, tuple(pairs))
+        return [find_block(function(), label)[1][-1][0] for label in labels]
+
+    if len(reached(function())) < len(function()[3]):
+        emit("prune", name)
+    for _ in range(amount):
+        if not conditions(function()):
+            break
+        header, label = conditions(function())[0]
+        loop = [row for row in simple_loops(function()) if row[0] == header][0]
+        ahead = preheader(graph_of(function()), loop)
+        condition = find_block(function(), label)[3][1]
+        places = definition_places(function())
+        for known in sorted(own for own, place in places.items() if place[0] in loop[1] and any(at not in loop[1] for at, _, _ in uses(function(), own))):
+            give(known, sorted(at for at, living in live_names(function()).items() if known in living and at not in loop[1]))
+        params = give(condition[1], sorted(at for at, living in live_names(function()).items() if condition[1] in living and at in loop[1]))
+        if find_block(function(), ahead)[3][0] == "switch":
+            emit("fold_end", name, ahead)
+        emit("fork", name, ahead, condition)
+        own = [known for at in loop[1] for known in block_names(find_block(function(), at))]
+        first, fresh = new_name(function()), new_label(function())
+        emit("copy_region", name, header, loop[1], tuple(range(fresh, fresh + len(loop[1]))), tuple(range(first, first + len(own))), ((ahead, 1),))
+        names = params + [first + own.index(param) for param in params]
+        for slot in (0, 1):
+            n, count = new_name(function()), len(find_block(function(), header)[1])
+            emit("gather", name, new_label(function()), tuple(range(n, n + count)), ((ahead, slot),))
+            names += range(n, n + count)
+        for slot in (0, 1):
+            emit("edge_value", name, ahead, slot)
+        table = solve_values(module, function())
+        kinds = kinds_of(function())
+        single = [known for known in sorted(names) if kinds[known] != "ptr" and range_of(function(), table, ("name", known))[0] == range_of(function(), table, ("name", known))[1]]
+        if single:
+            emit("ranges", name, table, tuple(single))
+        for at in sorted(block[0] for block in function()[3]):
+            end = find_block(function(), at)[3]
+            if end[0] == "condbr" and end[1][0] == "int":
+                emit("fold_end", name, at)
+        if len(reached(function())) < len(function()[3]):
+            emit("prune", name)
+    return tuple(found)
+
+
 class UnswitchTest(PassCase):
 
     INNER = LOOP.replace("2(): {}", "2(): condbr $8, 4(), 5() 4(): call void put(i32 65) !5 br 6() 5(): call void put(i32 66) !6 br 6() 6():")
@@ -128,11 +190,25 @@ class UnswitchTest(PassCase):
         self.assertEqual(certificate[:7], (("prune", "main"), ("add_param", "main", 3, 10, "i32", (("name", 1),)), ("add_param", "main", 7, 11, "i32", (("name", 1),)), ("use_params", "main", ((3, 0), (7, 0))),
                                            ("add_param", "main", 3, 12, "i32", (("name", 7),)), ("add_param", "main", 7, 13, "i32", (("name", 7),)), ("use_params", "main", ((3, 1), (7, 1)))))
         self.assertEqual(conditions(changed[1][0]), [])
+        self.assertEqual(certificate, slow_unswitch(self.module(text), "main", 4))
+
+    def test_orders(self):
+        # Names ascend, not labels; folded ends ascend by label, not by the order of the blocks; a switch on a name from outside stays.
+        text = ("0(): $0 = call i32 get() !1 $8 = icmp ult i32 $0, i32 4 br 1(i32 0) 6(): $3 = add i32 $9, i32 1 br 1($3) 1($9 i32): $2 = icmp ult i32 $9, i32 5 condbr $2, 2(), 3() 2(): switch $0, 4: 4(), else 5() "
+                "5(): condbr $8, 6(), 4() 4(): $7 = mul i32 $9, i32 3 condbr $8, 6(), 3() 3(): ret $9")
+        certificate, changed = self.passed(unswitch, self.module(text))
+        self.assertEqual(certificate, slow_unswitch(self.module(text), "main", 4))
+        self.assertIn("fork", self.words(certificate))
+        text = self.INNER.format("$7 = mul i32 $1, i32 3", "").replace("$1", "$10").replace("3(): ret i32 0", "3(): $11 = add i32 $7, $10 ret $11")
+        certificate = self.passed(unswitch, self.module(text))[0]
+        self.assertEqual([step[5][0] for step in certificate[:3:2]], [("name", 7), ("name", 10)])
+        self.assertEqual(certificate, slow_unswitch(self.module(text), "main", 4))
 
     def test_preheader_with_switch(self):
         text = self.INNER.format("", "").replace("br 1(i32 0)", "switch $0, else 1(i32 0)")
         certificate = self.passed(unswitch, self.module(text))[0]
         self.assertEqual(self.words(certificate)[5:8], ["use_params", "fold_end", "fork"])
+        self.assertEqual(certificate, slow_unswitch(self.module(text), "main", 4))
 
     def test_left_alone(self):
         self.leaves(unswitch, LOOP.format("", "", ""))
@@ -167,6 +243,7 @@ class UnswitchTest(PassCase):
                 certificate, changed = self.passed(unswitch, module, name, amount=30)
                 self.assertLess(self.words(certificate).count("fork"), 30)
                 self.assertEqual(conditions(find_function(changed, name)), [])
+                self.assertEqual(certificate, slow_unswitch(module, name, 30))
                 one = self.passed(unswitch, module, name, amount=1)[0]
                 self.assertEqual(one, certificate[:len(one)])
                 self.assertEqual(self.words(one).count("fork"), min(1, self.words(certificate).count("fork")))
