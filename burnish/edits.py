@@ -3,7 +3,7 @@
 from burnish.flow import immediate, tree_spans
 from burnish.graph import definition_places
 from burnish.records import (
-    block_definitions, definitions, edges, end_operands, find_block, find_function, map_end, map_instruction,
+    edges, end_operands, find_block, find_function, map_end, map_instruction,
     put_block, put_function,
 )
 from burnish.scopes import block_numbers, block_targets
@@ -85,12 +85,12 @@ def edges_into(function, label, places):
 
 def block_names(block):
     """Return the list of the names that a block defines, in order."""
-    return [name for name, _ in block_definitions(block)]
+    return [name for name, _ in block[1]] + [made[0] for made in block[2] if made[0] != -1]
 
 
 def defined_names(function):
     """Return the list of the names that a function defines, in order."""
-    return [name for name, _ in definitions(function)]
+    return [name for block in function[3] for name in block_names(block)]
 
 
 def block_uses(block, names):

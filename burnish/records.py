@@ -166,7 +166,11 @@ def put_function(module, function):
 
 def new_name(function):
     """Return one more than the greatest name that the function defines, or 0."""
-    return max([name for name, _ in definitions(function)], default=-1) + 1
+    greatest = -1
+    for _, params, body, _ in function[3]:
+        # A name of -1 stands where nothing is defined.
+        greatest = max([greatest] + [name for name, _ in params] + [made[0] for made in body])
+    return greatest + 1
 
 
 def new_label(function):

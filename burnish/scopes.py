@@ -1,7 +1,7 @@
 """Scopes: which blocks are reached, what dominates them, and the kinds of names."""
 
 from burnish.flow import immediate, reached_nodes
-from burnish.records import builtin, definitions, edges, find_function
+from burnish.records import builtin, edges, find_function, result_kind
 
 
 def block_numbers(function):
@@ -57,9 +57,13 @@ def _downwards(uppers):
 def kinds_of(function):
     """Return a dict from each defined name to the kind of its first definition."""
     kinds = {}
-    for name, kind in definitions(function):
-        if name not in kinds:
-            kinds[name] = kind
+    for _, params, body, _ in function[3]:
+        for name, kind in params:
+            if name not in kinds:
+                kinds[name] = kind
+        for made in body:
+            if made[0] != -1 and made[0] not in kinds:
+                kinds[made[0]] = result_kind(made)
     return kinds
 
 

@@ -122,8 +122,10 @@ class Tidier:
 
     def name_drops(self):
         """Return the steps for params that are only passed for themselves."""
-        used = self.other_uses()
         found = []
+        if not any([block[1] for block in self.rows if block[0] != self.first]):
+            return found
+        used = self.other_uses()
         for label, params, _, _ in self.rows:
             if label != self.first:
                 names = [param for param, _ in params if ("name", param) not in used]
@@ -133,7 +135,9 @@ class Tidier:
     def branches(self):
         """Return the steps for switches with one case."""
         labels = [block[0] for block in self.rows if block[3][0] == "switch" and len(block[3][2]) == 1]
-        return [("as_condbr", self.name, label, new_name(self.function)) for label in labels]
+        # The names are counted only where one is needed.
+        fresh = new_name(self.function) if labels else 0
+        return [("as_condbr", self.name, label, fresh) for label in labels]
 
     def skips(self):
         """Return the steps for edges that can be cut short."""

@@ -5,13 +5,14 @@ import unittest
 
 from burnish.check import STEPS, check
 from burnish.faults import faults
-from burnish.manager import PASSES, join, optimize, whole_module
+from burnish.manager import PASSES, join, optimize, run_pass, whole_module
 from burnish.packing import pack, unpack
 from burnish.records import find_function
 from goodsteps import PLAIN
 from passing import random_module
 from proposals import Proposer
 from stepping import StepCase
+from test_bounds import big_function, shallow
 from test_plainloops import branchy
 from test_tidy import switchy
 
@@ -109,6 +110,31 @@ class PromiseTest(StepCase):
                 changed, at = check(module, certificate)
                 self.assertTrue(changed == module if at == -1 else changed is None)
                 self.assertEqual(unpack(pack(certificate)), certificate)
+
+    def look_at_bounds(self, function):
+        module = ((("g", False, (1, 2, 3, 4)),), (function,))
+        self.assertEqual(faults(module), [])
+        for word in PASSES:
+            certificate = shallow(lambda: run_pass(module, word, "" if whole_module(word) else "main", 2))
+            self.assertEqual(shallow(lambda: check(module, certificate[:3]))[1], -1, word)
+
+    def test_greatest_function(self):
+        self.look_at_bounds(big_function())
+
+    def test_greatest_function_with_memory(self):
+        blocks, count = [], 20
+        entry = tuple((k, "alloca", "ptr", (), (8,), -1) for k in range(20))
+        for k in range(2000):
+            rows = [] if k else list(entry)
+            for j in range(4):
+                pointer = ("name", (k + j) % 20)
+                rows.append((-1, "store", "i32", (("int", "i32", k), pointer), (), 1))
+                rows.append((count, "load", "i32", (pointer,), (), 2))
+                rows.append((count + 1, "gep", "ptr", (pointer,), (4,), -1))
+                count += 2
+            end = ("switch", ("name", count - 2), ((1, (k + 1, ())),), (max(k - 3, 1), ())) if 0 < k < 1999 else ("br", (1, ()))
+            blocks.append((k, (), tuple(rows), end if k < 1999 else ("ret", ("name", count - 2))))
+        self.look_at_bounds(("main", "i32", False, tuple(blocks)))
 
     def test_every_pass_keeps_traps_and_endless_runs(self):
         endless = "export main i32 { 0(): $0 = call i32 get() !1 br 1($0) 1($1 i32): call void put($1) !2 $2 = add i32 $1, i32 0 br 1($2) }"
